@@ -1,0 +1,25 @@
+"""The interface: names, parameters, and the files in which they are defined."""
+
+import importlib
+import inspect
+import unittest
+
+FUNCTIONS = {
+    "movedrun.programs": {"is_program": ["thing"], "write_program": ["program"], "read_program": ["text"]},
+    "movedrun.checks": {"check": ["program"], "checked": ["program"]},
+}
+
+
+class Interface(unittest.TestCase):
+    def test_functions(self):
+        for name, functions in FUNCTIONS.items():
+            module = importlib.import_module(name)
+            for word, parameters in functions.items():
+                with self.subTest(function=word):
+                    function = getattr(module, word)
+                    self.assertEqual(function.__module__, name)
+                    self.assertEqual(list(inspect.signature(function).parameters), parameters)
+
+
+if __name__ == "__main__":
+    unittest.main()
