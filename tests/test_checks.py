@@ -435,7 +435,8 @@ class Ends(Checking):
 
     def test_open_ended(self):
         self.open_ended(
-            "", "show 1 ;", "while false { return 1 ; }", "while ( not false ) { }",
+            "", "show 1 ;", "show true ;", "true ;", "var truth t = true ;", "while false { return 1 ; }",
+            "while ( not false ) { }",
             "while ( true and true ) { return 1 ; }",
             "if true { return 1 ; } else { }", "if true { } else { return 1 ; }", "if true { } else { }",
             "try { return 1 ; } catch A e { }", "try { } catch A e { return 1 ; }", "try { } catch A e { }",

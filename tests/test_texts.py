@@ -228,6 +228,10 @@ class Words(Marked):
     def test_closed_brackets_are_open_no_more(self):
         text = HEAD + "( f ( 1 ) ) ; x [ 0 ] = 1 ; if true { } else { } " * 30 + TAIL
         self.assertEqual(place_of(text), None)
+        self.assertEqual(place_of(HEAD + "x [ 0 ] = 1 ; " * 80 + TAIL), None)
+        self.assertEqual(place_of(HEAD + "( x [ 0 ] ) ; " * 80 + TAIL), None)
+        self.assertEqual(place_of(HEAD + "( f ( ) ) ; " * 80 + TAIL), None)
+        self.assertEqual(place_of(HEAD + "while 1 { } " * 80 + TAIL), None)
         text = "class A { int f ; def m ( ) { } } " * 12 + "def f ( int p ) { } " * 18
         self.assertEqual(place_of(text), None)
 
