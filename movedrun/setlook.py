@@ -28,6 +28,6 @@ class SetSlots(Spread):
             if instruction[0] == "load" and instruction[1] not in self.told[place]:
                 self.refuse("unset", place)
 
-    def table(self, kinds):
+    def table_beside(self, kinds):
         """What is set at each place that has kinds, None at all others."""
         return tuple([None if kinds[place] is None else told for place, told in enumerate(self.told)])

@@ -58,4 +58,4 @@ def stack_kinds(module, index):
 def set_locals(module, index):
     """The params and locals that are set at each place, None where stack_kinds has None."""
     known = verified_with(module, index)
-    return SetSlots(known, index).table(Kinds(known, index).told)
+    return SetSlots(known, index).table_beside(Kinds(known, index).told)

@@ -7,6 +7,13 @@ import unittest
 FUNCTIONS = {
     "movedrun.programs": {"is_program": ["thing"], "write_program": ["program"], "read_program": ["text"]},
     "movedrun.checks": {"check": ["program"], "checked": ["program"]},
+    "movedrun.meaning": {"mean": ["program", "given", "bound"]},
+    "movedrun.modules": {"is_module": ["thing"], "write_module": ["module"], "read_module": ["text"]},
+    "movedrun.verifier": {
+        "verify": ["module"], "heights": ["module", "index"], "stack_kinds": ["module", "index"],
+        "set_locals": ["module", "index"],
+    },
+    "movedrun.compiler": {"compiled": ["program"], "code_place": ["program", "where"]},
 }
 
 
