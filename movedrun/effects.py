@@ -156,7 +156,7 @@ def is_let_add(family, instruction, kinds):
 def is_let_same(family, instruction, kinds):
     first, second = kinds
     if is_reference(first):
-        return is_reference(second) and family.may_be_same(first, second)
+        return family.may_be_same(first, second)
     return first != MIXED and first == second
 
 
@@ -165,9 +165,8 @@ def is_let_at(family, instruction, kinds):
 
 
 def is_let_set(family, instruction, kinds):
-    """A nil row has no entries' kind that anything fits."""
-    entry = entry_of(kinds[0])
-    return entry is not None and family.fits(kinds[2], entry)
+    """What is no row, and a nil one too, has no entries' kind that anything fits."""
+    return family.fits(kinds[2], entry_of(kinds[0]))
 
 
 def is_let_size(family, instruction, kinds):

@@ -43,9 +43,8 @@ def met_kind(family, kind, other):
         return other
     if other == NIL and is_reference(kind):
         return kind
-    name = class_of(other)
-    if class_of(kind) is not None and name is not None:
-        for each in family.line(class_of(kind)):
-            if family.is_below(name, each[0]):
-                return ("of", each[0])
+    # Only two classes have a line, and from the first one's class up the least one at or above both.
+    for each in family.line(class_of(kind)):
+        if family.is_below(class_of(other), each[0]):
+            return ("of", each[0])
     return MIXED

@@ -56,6 +56,14 @@ BODIES = (
     "show ( size ( many ( 1 , true , nil , ( new B ) , nil , ( row row A [ 1 ] ) ) ) ) ;",
     "show ( ( ( new B ) . id ( 4 ) ) + ( ( ( new A ) . me ( ) ) . id ( ( say ( 5 ) ) ) ) ) ; var A a = nil ; ( a . id ( read ) ) ;",
     "show ( ( row int [ 2 ] ) [ ( say ( 1 ) ) ] ) ; show ( ( ( row row A [ 2 ] ) [ 1 ] ) = nil ) ; ( row int [ -1 ] ) ;",
+    "( 1 + 2 ) ; ( 2 - 1 ) ; ( 1 < 2 ) ; ( nil = nil ) ; ( \"a\" + nil ) ;", "true ; ( true and ( yes ( 1 ) ) ) ; ( not true ) ; ( nil is A ) ; "
+    "( nil as A ) ; ( size \"a\" ) ; ( \"a\" sign 0 ) ; ( tell 1 ) ; ( row int [ 1 ] ) ; ( new A ) ; ( ( new A ) . n ) ; "
+    "( ( row int [ 1 ] ) [ 0 ] ) ; ( ( new A ) . id ( 1 ) ) ; ( -1 rem 2 ) ; ( \"a\" + \"b\" ) ; ( nil + nil ) ; 7 ; nil ;",
+    "var A a = ( new B ) ; ( a as B ) . m = 3 ; show ( ( ( a as B ) as B ) . m ) ; var row row A r = ( row row A [ 2 ] ) ; "
+    "r [ 1 ] = ( row A [ 3 ] ) ; ( r [ 1 ] ) [ 2 ] = a ; show ( ( ( r [ 1 ] ) [ 2 ] ) . n ) ; show ( ( ( r [ 1 ] ) [ 2 ] ) . id ( 4 ) ) ; "
+    "show ( ( ( row A [ 2 ] ) [ 1 ] ) . n ) ;",
+    "show ( size ( many ( 1 , true , \"a\" , ( ( new B ) . me ( ) ) , ( row int [ 1 ] ) , nil ) ) ) ;",
+    "show ( ( many ( 1 , true , \"a\" , nil , nil , nil ) ) = nil ) ; ( ( many ( 1 , true , \"a\" , nil , nil , nil ) ) [ 0 ] ) . n = 1 ;",
     "if true { var int x = 1 ; show x ; } else { var text x = \"y\" ; show x ; } var truth x = false ; show x ;",
     "( main ( ) ) ;", "show 1 ; var int i = 0 ; while ( i < 5 ) { ( say ( i ) ) ; i = ( i + 1 ) ; } show ( 1 / 0 ) ;",
 )

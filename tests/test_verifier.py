@@ -347,6 +347,8 @@ class Heights(Verifying):
     def test_what_is_not_enough_is_not_given_on(self):
         self.code("truth true; if 4; nil; nil; drop; jump 6; done", "short", 4)
         self.code("drop; drop; drop; done", "short", 0)
+        # Nothing at all is given on to the done, which is at a lower place.
+        self.code("jump 2; done; drop; jump 1", "short", 2)
 
     def test_what_cannot_be_come_to(self):
         self.let("jump 3; drop; drop; done", "done; set; done", "jump 2; jump 1; done", "done; nil; nil; done")
@@ -519,6 +521,27 @@ class Kinds(Verifying):
 
     def test_what_cannot_be_come_to_is_not_looked_at(self):
         self.let("jump 3; nil; not; done")
+
+    def test_values_below(self):
+        self.let("int 1; truth true; twin; not; drop; not; drop; tell; drop; done",
+                 "text a; int 1; int 2; add; tell; drop; show; done", "new A; nil; new B; get A n; tell; drop; drop; throw")
+
+    def test_what_is_given_on_whatever_kinds_it_has(self):
+        # The wrong instruction gives its value to one at a lower place, which lets just this kind.
+        for values, instruction, kind in (
+                ("nil; int 1", "add", "int"), ("int 1; nil", "add", "text"), ("int 1; text a", "add", "text"),
+                ("text a; int 1", "add", "int"), ("int 1; truth true", "add", None), ("truth true; new A", "add", None),
+                ("nil; nil", "sub", "int"), ("nil; nil", "mul", "int"), ("nil; nil", "div", "int"), ("nil; nil", "rem", "int"),
+                ("nil; nil", "less", "truth"), ("nil; int 1", "same", "truth"), ("nil", "not", "truth"),
+                ("int 1; int 1", "at", None), ("text a; int 1", "at", None), ("new A; int 1", "at", None),
+                ("int 1", "is A", "truth"), ("int 1", "as A", A), ("int 1", "size", "int"), ("int 1; nil", "sign", "int"),
+                ("nil", "tell", "text"), ("int 1", "get A n", "int"), ("nil", "row int", ROW), ("nil; int 1", "call 5", B),
+                ("int 1; int 1", "ask A m", "int"), ("int 1", "ask D m", "text")):
+            for other in ("int", "truth", "text", A, B, ROW):
+                right = kind == other or (kind, other) == (B, A)
+                text = f"jump 3; store 0; done; {values}; {instruction}; jump 1"
+                place = text.count(";") - 1 if right else 1
+                self.code(text, "kind", place, own=(other,))
 
 
 class Meeting(Verifying):
