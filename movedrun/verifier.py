@@ -30,9 +30,18 @@ def verified(module):
         look_at_indexes(known, index)
         # Each one needs what the ones ahead of it have let by.
         Heights(known, index).look()
-        Kinds(known, index).look()
-        SetSlots(known, index).look()
+        look_at_values(known, index)
     return known
+
+
+def look_at_values(known, index):
+    """Keeps the kinds and the set locals that are found: runs ask for them."""
+    kinds = Kinds(known, index)
+    kinds.look()
+    sets = SetSlots(known, index)
+    sets.look()
+    known.kinds.append(kinds.table())
+    known.sets.append(sets.table_beside(kinds.told))
 
 
 def verified_with(module, index):
@@ -51,11 +60,9 @@ def heights(module, index):
 
 def stack_kinds(module, index):
     """The kinds of the values on the stack at each place, None where there are none."""
-    known = verified_with(module, index)
-    return Kinds(known, index).table()
+    return verified_with(module, index).kinds[index]
 
 
 def set_locals(module, index):
     """The params and locals that are set at each place, None where stack_kinds has None."""
-    known = verified_with(module, index)
-    return SetSlots(known, index).table_beside(Kinds(known, index).told)
+    return verified_with(module, index).sets[index]
