@@ -58,7 +58,12 @@ class Running:
         if self.tables is not None:
             self.look(frame, index, place)
         word, *borne = instruction
-        getattr(self, "do_" + word)(frame, *borne)
+        stack = list(frame["stack"])
+        try:
+            getattr(self, "do_" + word)(frame, *borne)
+        except Spent:
+            frame["stack"] = stack
+            raise
 
     def look(self, frame, index, place):
         heights, kinds, sets = self.tables[index]
@@ -321,6 +326,54 @@ class Running:
         if not self.given:
             raise Fault("dry")
         self.go_on(frame, self.given.pop(0))
+
+
+class Finding:
+    """The graph of a run that was spent, told by tables as Running has them."""
+
+    def __init__(self, run):
+        self.run = run
+        self.found = []
+
+    def graph(self):
+        frames = tuple([self.frame(frame, frame is not self.run.frames[-1]) for frame in self.run.frames])
+        things = []
+        for thing in self.found:
+            things.append(self.thing(thing))
+        return (frames, tuple(things))
+
+    def frame(self, frame, waits):
+        index, place = frame["function"], frame["place"]
+        _, kinds, sets = self.run.tables[index]
+        asked = place - 1 if waits else place
+        slots = [self.value(value) if slot in sets[asked] else "unset" for slot, value in enumerate(frame["slots"])]
+        stack = ["mixed" if kind == "mixed" else self.value(value)
+                 for kind, value in zip(kinds[asked], frame["stack"])]
+        return (index, place, tuple(slots), tuple(stack))
+
+    def value(self, value):
+        if not isinstance(value, Thing):
+            return value
+        for number, thing in enumerate(self.found):
+            if thing is value:
+                return ("thing", number)
+        self.found.append(value)
+        return ("thing", len(self.found) - 1)
+
+    def thing(self, thing):
+        if thing.kind == "text":
+            return ("text", thing.slots)
+        if thing.kind[0] == "row":
+            return ("row", thing.kind[1], tuple([self.value(value) for value in thing.slots]))
+        names = self.run.line(thing.kind[1])[::-1]
+        fields = [field for name in names for each in self.run.classes if each[0] == name for field, _ in each[2]]
+        return ("of", thing.kind[1], tuple([self.value(thing.slots[field]) for field in fields]))
+
+
+def graph_module(module, given, beats, tables):
+    """The graph behind so many beats, None if the run ends ahead of that."""
+    run = Running(module, given, beats, tables)
+    return Finding(run).graph() if run.outcome()[0] == "spent" else None
 
 
 def run_module(module, given, bound, tables=None):

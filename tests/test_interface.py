@@ -14,6 +14,26 @@ FUNCTIONS = {
         "set_locals": ["module", "index"],
     },
     "movedrun.compiler": {"compiled": ["program"], "code_place": ["program", "where"]},
+    "movedrun.plain": {
+        "run_plain": ["module", "given", "bound"], "frames_at": ["module", "given", "beats"],
+        "same_graph": ["graph", "other"], "graph_size": ["graph"], "calls_of": ["module"],
+        "reached_from_main": ["module"], "counts": ["module", "given", "bound"], "made": ["module", "given", "bound"],
+    },
+    "movedrun.heaps": {"heap_of": ["shapes", "sizes", "picture"]},
+    "movedrun.judges": {"is_sound": ["shapes", "sizes", "thing", "roots"]},
+}
+
+HEAP_METHODS = {
+    "make": ["kind", "slots", "roots"], "kind": ["address"], "slots": ["address"], "get": ["address", "slot"],
+    "put": ["address", "slot", "value"], "graph": ["roots"], "unreached": ["roots"], "minor": ["roots"],
+    "settle": ["roots"], "begin": ["roots"], "slice": ["count", "roots"], "whole": ["roots"],
+}
+
+# By file and class: its own parameters, and those of its methods.
+CLASSES = {
+    ("movedrun.heaps", "Heap"): (["shapes", "sizes"], dict(HEAP_METHODS, **{
+        "where": ["address"], "remembered": [], "counts": [], "is_marking": [], "picture": [],
+    })),
 }
 
 
@@ -26,6 +46,17 @@ class Interface(unittest.TestCase):
                     function = getattr(module, word)
                     self.assertEqual(function.__module__, name)
                     self.assertEqual(list(inspect.signature(function).parameters), parameters)
+
+    def test_classes(self):
+        for (name, word), (parameters, methods) in CLASSES.items():
+            own = getattr(importlib.import_module(name), word)
+            self.assertEqual(own.__module__, name)
+            self.assertEqual(list(inspect.signature(own).parameters), parameters)
+            for method, names in methods.items():
+                with self.subTest(method=method):
+                    # It stands in the body of the class itself.
+                    function = vars(own)[method]
+                    self.assertEqual(list(inspect.signature(function).parameters), ["self"] + names)
 
 
 if __name__ == "__main__":
