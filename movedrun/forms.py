@@ -5,6 +5,10 @@ GREATEST_INT = 2147483647
 
 LETTERS = "abcdefghijklmnopqrstuvwxyzABCDEFGHIJKLMNOPQRSTUVWXYZ"
 DIGITS = "0123456789"
+# All signs that a text may have.
+TEXT_SIGNS = (
+    " !#$&'()*+,-./0123456789:;<=>?@ABCDEFGHIJKLMNOPQRSTUVWXYZ[\\]^_`abcdefghijklmnopqrstuvwxyz{|}~"
+)
 
 MOST_NAME_SIGNS = 8
 MOST_TEXT_SIGNS = 40

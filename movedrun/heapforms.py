@@ -23,6 +23,7 @@ MOST_ROOM = 4096
 LEAST_GREAT = 4
 MOST_AGE = 7
 MOST_ROOTS = 40000
+MOST_SLICE = 1000000
 
 
 def look_at_shapes(shapes):

@@ -3,15 +3,13 @@
 from movedrun.errors import BadAddress, BadCount, BadPicture, BadSlot, BadValue, Marking
 from movedrun.forms import GREATEST_INT, LEAST_INT, is_between, is_integer
 from movedrun.heapforms import (
-    HEAD_WORDS, is_link, look_at_kind, look_at_roots, look_at_shapes, look_at_size, look_at_sizes
+    HEAD_WORDS, MOST_SLICE, is_link, look_at_kind, look_at_roots, look_at_shapes, look_at_size, look_at_sizes
 )
 from movedrun.judges import is_sound
 from movedrun.marking import begin_marking, blacken_all, blacken_first, end_marking, is_grey_left
 from movedrun.memory import Memory
 from movedrun.moving import move_young
 from movedrun.tracing import Tracing
-
-MOST_SLICE = 1000000
 
 
 class Heap:

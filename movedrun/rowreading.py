@@ -1,17 +1,12 @@
 """A module out of the rows of its text: each function goes past what it returns."""
 
 from movedrun.errors import BadRows
-from movedrun.forms import MOST_ENTRY_ROWS, MOST_ROWS, MOST_TEXT_SIGNS, PLAIN_KINDS, is_name
+from movedrun.forms import MOST_ENTRY_ROWS, MOST_ROWS, MOST_TEXT_SIGNS, PLAIN_KINDS, TEXT_SIGNS, is_name
 from movedrun.instructions import (
     INSTRUCTIONS, MOST_CATCHES, MOST_CODE, MOST_MODULE_FUNCTIONS, MOST_SLOTS, is_function_name, is_index
 )
 from movedrun.programs import MOST_CLASSES, MOST_FIELDS, MOST_METHODS
 from movedrun.words import is_number
-
-# All signs that a text may have.
-TEXT_SIGNS = (
-    " !#$&'()*+,-./0123456789:;<=>?@ABCDEFGHIJKLMNOPQRSTUVWXYZ[\\]^_`abcdefghijklmnopqrstuvwxyz{|}~"
-)
 
 
 class Rows:
