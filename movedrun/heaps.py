@@ -7,7 +7,7 @@ from movedrun.heapforms import (
 )
 from movedrun.judges import is_sound
 from movedrun.marking import begin_marking, blacken_all, blacken_first, end_marking, is_grey_left
-from movedrun.memory import Memory
+from movedrun.memory import Memory, copy_of_memory
 from movedrun.moving import move_young
 from movedrun.tracing import Tracing
 
@@ -181,6 +181,13 @@ def heap_of(shapes, sizes, picture):
     memory.grey = list(grey)
     memory.marks = marking
     return heap
+
+
+def copy_of_heap(heap):
+    """An equal heap that goes its own way."""
+    other = Heap(heap.memory.shapes, heap.memory.sizes)
+    other.memory = copy_of_memory(heap.memory)
+    return other
 
 
 def lay_room(memory, room, words):

@@ -124,7 +124,7 @@ class Memory:
         return self.words[self.first_old:]
 
 
-def copy_of(memory):
+def copy_of_memory(memory):
     """An equal memory that goes its own way."""
     other = Memory(memory.shapes, memory.sizes)
     other.words = list(memory.words)
