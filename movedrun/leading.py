@@ -41,8 +41,8 @@ class Standing:
 
     def fact(self, source):
         """The class that a fact tells of a source, None if none does."""
-        for register, name in self.facts:
-            if source == ("r", register):
+        for number, name in self.facts:
+            if source == ("r", number):
                 return name
         return None
 
@@ -53,10 +53,10 @@ class Standing:
         """The view behind a step of the last frame to a place with this stack; None if no way leads there."""
         return stepped_to(self.known, self.view[:-1], (self.function, self.place, self.slots, self.stack), to, stack)
 
-    def written(self, register):
+    def written(self, number):
         """The view behind the instruction, what comes of it being in the register."""
         stack = self.left()
-        return self.stepped(self.place + 1, stack if register is None else stack + (("r", register),))
+        return self.stepped(self.place + 1, stack if number is None else stack + (("r", number),))
 
     def callee(self):
         """The function that is meant: by a fact, where it is an ask. None if that is not told."""
@@ -123,9 +123,9 @@ def one_way(view, written, told):
     return ((view, written, told),)
 
 
-def times(view, register):
+def times(view, number):
     """How often a register stands in a view."""
-    source = ("r", register)
+    source = ("r", number)
     return sum([frame[2].count(source) + frame[3].count(source) for frame in view])
 
 

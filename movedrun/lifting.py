@@ -1,4 +1,4 @@
-"""How a strip is made of a function: views are followed from each entry, and one row is made for each that is come to."""
+"""How a strip is made: views are followed from each entry, and one row is made for each that is come to."""
 
 from movedrun.family import NIL, class_of
 from movedrun.known import places_behind
@@ -126,7 +126,7 @@ class Lifting:
         if not is_doing(standing) or self.is_at_of_nil(standing):
             # A throw, an if of a constant, or what is sure to fault.
             return ("out",)
-        return ("do", self.register(standing))
+        return ("do", self.free_number(standing))
 
     def is_at_of_nil(self, standing):
         """Behind it nothing has kinds, as it always faults."""
@@ -142,7 +142,7 @@ class Lifting:
         callee = standing.callee()
         if place in self.opened and callee is not None and standing.has_room_for(callee):
             return ("enter",)
-        return ("call", self.register(standing))
+        return ("call", self.free_number(standing))
 
     def is_guessing(self, standing):
         """An ask that is guessed, of a register that may hold an object and has no fact."""
@@ -152,7 +152,7 @@ class Lifting:
             return False
         return class_of(self.kind_of_receiver(standing)) is not None
 
-    def register(self, standing):
+    def free_number(self, standing):
         """The least register that stands nowhere in the view, None if nothing comes."""
         if standing.op.puts == 0:
             return None
@@ -161,31 +161,31 @@ class Lifting:
             for source in slots + stack:
                 if source is not None and source[0] == "r":
                     used[source[1]] = True
-        register = 0
-        while register in used:
-            register += 1
-        if register > GREATEST_REGISTER:
+        number = 0
+        while number in used:
+            number += 1
+        if number > GREATEST_REGISTER:
             raise TooGreat("there are too many registers")
-        return register
+        return number
 
 
 def form_of(view):
     """The view with all its sources in registers 0, 1, .. frame by frame, and the moves that bring them there."""
     pairs = []
     frames = []
-    register = 0
+    number = 0
     for function, place, slots, stack in view:
         told = []
         for source in slots + stack:
             if source is None:
                 told.append(None)
                 continue
-            if register > GREATEST_REGISTER:
+            if number > GREATEST_REGISTER:
                 raise TooGreat("there are too many registers")
-            if source != ("r", register):
-                pairs.append((register, source))
-            told.append(("r", register))
-            register += 1
+            if source != ("r", number):
+                pairs.append((number, source))
+            told.append(("r", number))
+            number += 1
         frames.append((function, place, tuple(told[:len(slots)]), tuple(told[len(slots):])))
     return tuple(frames), tuple(pairs)
 

@@ -3,7 +3,7 @@
 from movedrun.actions import ACTIONS, work
 from movedrun.effects import puts, taken
 from movedrun.family import NIL, entry_of
-from movedrun.works import WORKS, add_texts
+from movedrun.works import WORKS, add_texts, show_text
 
 MAKING = ("call", "ask", "new", "row", "text", "tell")
 
@@ -58,6 +58,8 @@ class Codes:
         if word == "add" and takes_texts(kinds):
             op.work = add_texts
             op.is_anchor = True
+        if word == "show" and takes_texts(kinds):
+            op.work = show_text
         if word == "jump" or word == "if":
             op.is_anchor = op.borne <= place
         return op
@@ -78,5 +80,5 @@ class Codes:
 
 
 def takes_texts(kinds):
-    """Whether an add at a stack of these kinds is one of texts."""
+    """Whether an add or a show at a stack of these kinds is one of texts."""
     return kinds[-1] == "text" or kinds[-1] == NIL

@@ -23,7 +23,7 @@ class Roots:
             waits = index < len(self.run.frames) - 1
             if isinstance(frame, StripFrame):
                 registers = frame.strip.row(frame.row).roots(self.run.known, waits)
-                self.holders.extend([(frame.registers, register) for register in registers])
+                self.holders.extend([(frame.registers, number) for number in registers])
             else:
                 self.tell_slow(frame, waits)
         return tuple([0 if holder[at] is None else holder[at] for holder, at in self.holders])

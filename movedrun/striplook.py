@@ -94,7 +94,7 @@ class StripLook:
         next_row = self.rows[behind]
         if next_row[2][0] == "moves":
             return False
-        pairs = {register: source for register, source in deed[1]}
+        pairs = {number: source for number, source in deed[1]}
         led = tuple([led_frame(frame, pairs) for frame in next_row[0]])
         if not passes(self.known, view, led):
             return False

@@ -40,8 +40,8 @@ class StripRow:
 
     def receiver_class(self):
         """The class that a fact tells of what an ask is asked of."""
-        for register, name in self.facts:
-            if self.operands[0] == ("r", register):
+        for number, name in self.facts:
+            if self.operands[0] == ("r", number):
                 return name
         return None
 

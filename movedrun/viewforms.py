@@ -135,8 +135,8 @@ def fact_registers(known, view):
 def entry_view(known, function, place):
     """The view of one frame in which a strip is entered at a place."""
     slots = [None] * len(slot_kinds(known.functions[function]))
-    for register, slot in enumerate(known.sets[function][place]):
-        slots[slot] = ("r", register)
+    for number, slot in enumerate(known.sets[function][place]):
+        slots[slot] = ("r", number)
     first = len(known.sets[function][place])
     stack = [("r", first + index) for index in range(len(known.kinds[function][place]))]
     return ((function, place, tuple(slots), tuple(stack)),)

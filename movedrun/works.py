@@ -95,15 +95,18 @@ def cast(run, borne, operands):
 
 
 def show(run, borne, operands):
-    value = operands[0]
-    run.shown.append(value if isinstance(value, int) else run.store.signs(value))
+    run.shown.append(operands[0])
+
+
+def show_text(run, borne, operands):
+    run.shown.append(run.store.signs(operands[0]))
 
 
 def read(run, borne, operands):
     return run.take_given()
 
 
-# An add of texts is told by its kinds, not by its word.
+# An add and a show of texts are told by their kinds, not by their words.
 WORKS = {
     "add": add_ints,
     "sub": subtract,
