@@ -49,14 +49,14 @@ def end_marking(memory, roots):
 def slide(memory, roots):
     """Lays the black objects side by side, white; nothing is young."""
     places = new_places(memory)
-    words = memory.words[:memory.first_old]
+    words = []
     for address in places:
         first = len(words)
         words.extend(memory.words[address:address + memory.size(address)])
         words[first] += WHITE - BLACK
         for place in memory.link_places(address):
             words[place - address + first] = places.get(memory.words[place], 0)
-    memory.words = words
+    memory.words[memory.first_old:] = words
     memory.old = {address: True for address in places.values()}
     return tuple([places.get(root, 0) for root in roots])
 

@@ -1,4 +1,7 @@
-"""Long rows of makes, puts, gets and collections: each picture is that of a second heap told by objects, and sound."""
+"""Long rows of makes, puts, gets and collections: each picture is that of a second heap told by objects, and sound.
+
+A plain heap goes along: whatever is collected, the graphs are alike.
+"""
 
 import random
 import unittest
@@ -6,6 +9,7 @@ import unittest
 from movedrun.errors import Marking
 from movedrun.heaps import Heap, heap_of
 from movedrun.judges import is_sound
+from movedrun.plains import PlainHeap, alike
 from tests.naiveheap import Lying, NaiveHeap
 
 SHAPES = ((), (True, False), (False, True, True), (True,) * 5)
@@ -21,8 +25,10 @@ class Walk:
         self.sizes = SIZES[seed % len(SIZES)]
         self.heap = Heap(SHAPES, self.sizes)
         self.naive = NaiveHeap(SHAPES, self.sizes)
+        self.plain = PlainHeap(SHAPES)
         self.roots = ()
         self.things = []
+        self.numbers = ()
 
     def go(self, many):
         steps = (self.make,) * 5 + (self.put,) * 6 + (self.get,) * 2 + (
@@ -42,6 +48,8 @@ class Walk:
         self.test.assertEqual(self.heap.unreached(self.roots), sum(counts[3:]) - len(things))
         self.test.assertEqual(counts[:3], tuple(len(picture[at]) for at in (0, 2, 3)))
         self.test.assertEqual((numbers, things), self.graph())
+        self.test.assertEqual(self.plain.graph(self.numbers), (numbers, things))
+        self.test.assertIs(alike(self.heap, self.roots, self.plain, self.numbers), True)
 
     def graph(self):
         found = []
@@ -67,6 +75,8 @@ class Walk:
         address, self.roots = self.heap.make(kind, slots, self.roots)
         self.things.append(self.naive.make(kind, slots, self.things))
         self.roots += (address,)
+        number, self.numbers = self.plain.make(kind, slots, self.numbers)
+        self.numbers += (number,)
 
     def choice(self):
         """A held object with slots, and one of them."""
@@ -85,9 +95,11 @@ class Walk:
         if slot in self.naive.links(thing.kind, len(thing.slots)):
             other = self.random.randrange(-1, len(self.things))
             word, value = (0, None) if other < 0 else (self.roots[other], self.things[other])
+            number = 0 if other < 0 else self.numbers[other]
         else:
-            word = value = self.random.choice((0, 1, -2 ** 31, 2 ** 31 - 1, 7))
+            number = word = value = self.random.choice((0, 1, -2 ** 31, 2 ** 31 - 1, 7))
         self.test.assertIsNone(self.heap.put(self.roots[at], slot, word))
+        self.test.assertIsNone(self.plain.put(self.numbers[at], slot, number))
         self.naive.put(thing, slot, value)
 
     def get(self):
@@ -96,11 +108,13 @@ class Walk:
             return
         at, slot = chosen
         word, value = self.heap.get(self.roots[at], slot), self.things[at].slots[slot]
+        number = self.plain.get(self.numbers[at], slot)
         if isinstance(value, Lying):
             self.roots += (word,)
+            self.numbers += (number,)
             self.things.append(value)
         else:
-            self.test.assertEqual(word, value or 0)
+            self.test.assertEqual((word, number), (value or 0, value or 0))
 
     def minor(self):
         self.roots = self.heap.minor(self.roots)
@@ -139,6 +153,7 @@ class Walk:
         if len(self.things) > 6:
             kept = sorted(self.random.sample(range(len(self.things)), 6))
             self.roots = tuple(self.roots[at] for at in kept)
+            self.numbers = tuple(self.numbers[at] for at in kept)
             self.things = [self.things[at] for at in kept]
 
     def renew(self):
