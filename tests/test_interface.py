@@ -21,6 +21,15 @@ FUNCTIONS = {
     },
     "movedrun.heaps": {"heap_of": ["shapes", "sizes", "picture"]},
     "movedrun.judges": {"is_sound": ["shapes", "sizes", "thing", "roots"]},
+    "movedrun.plains": {"alike": ["heap", "roots", "other", "others"]},
+    "movedrun.views": {"settled": ["module", "view"]},
+    "movedrun.strips": {
+        "lift": ["module", "function", "guesses", "opened"], "strip_holds": ["module", "thing"],
+    },
+    "movedrun.machine": {
+        "runs_alike": ["module", "given", "bound", "sizes", "schedule", "strips"],
+        "outlived": ["module", "given", "bound", "sizes", "schedule", "strips"],
+    },
 }
 
 HEAP_METHODS = {
@@ -34,6 +43,12 @@ CLASSES = {
     ("movedrun.heaps", "Heap"): (["shapes", "sizes"], dict(HEAP_METHODS, **{
         "where": ["address"], "remembered": [], "counts": [], "is_marking": [], "picture": [],
     })),
+    ("movedrun.plains", "PlainHeap"): (["shapes"], HEAP_METHODS),
+    ("movedrun.machine", "Machine"): (["module", "given", "sizes", "schedule"], {
+        "run": ["bound"], "tiers": [], "went_out": [], "went_up": [], "beats": [], "graph": [], "collected": [],
+        "heap": [], "unreached": [], "hold": ["strip"], "forget": ["function"], "minor": [], "settle": [],
+        "slice": ["count"], "whole": [], "out": [], "copy": [],
+    }),
 }
 
 

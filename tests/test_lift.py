@@ -10,7 +10,7 @@ from movedrun.strips import lift, strip_holds
 from movedrun.verifier import stack_kinds, verify
 from tests.generating import made_programs
 from tests.modulebuilding import function_of, module_of, read_code, tree_module, with_code
-from tests.test_agreement import Made
+from tests.spoiling import spoiled
 
 
 def places_of(module, *words):
@@ -129,7 +129,7 @@ class Promises(Lifting):
         made = 0
         for program in made_programs(8000, 8):
             module = compiled(program)
-            modules = [module] + [each for each in (Made().spoiled(chance, module) for _ in range(4)) if verify(each) is None]
+            modules = [module] + [each for each in (spoiled(chance, module) for _ in range(4)) if verify(each) is None]
             for each in modules:
                 made += self.looks(chance, each)
         self.assertGreater(made, 150)

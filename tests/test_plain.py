@@ -14,7 +14,7 @@ from tests.building import EXAMPLE
 from tests.generating import made_programs
 from tests.modulebuilding import OTHERS, TREE, function_of, module_of, read_code, tree_module, with_code
 from tests.running import graph_module, run_module
-from tests.test_agreement import Made
+from tests.spoiling import spoiled
 from tests.test_compiler import Tables
 
 WRONG_MODULES = (None, True, 0, "", (), [], ((), (), 0, 0), [(), (), 0], ((), [], 0), ((), (function_of(),), True))
@@ -269,7 +269,7 @@ class Counts(unittest.TestCase):
         self.assertEqual(made(tree_module("text a ; nil ; add ; drop ; done"), (), 0), [("text", 1)])
 
 
-class Agreement(Made):
+class Agreement(unittest.TestCase):
     """Made programs and spoiled modules, beside the small machine of the tests."""
 
     def test_programs(self):
@@ -295,7 +295,7 @@ class Agreement(Made):
         let = 0
         for program in made_programs(5000, 30):
             for _ in range(8):
-                module = self.spoiled(chance, compiled(program))
+                module = spoiled(chance, compiled(program))
                 if verify(module) is not None:
                     continue
                 let += 1
@@ -305,8 +305,6 @@ class Agreement(Made):
                     self.same_frames(module, (1, 0, 2, -1), bound, tables)
         self.assertGreater(let, 30)
 
-
-del Made
 
 if __name__ == "__main__":
     unittest.main()
