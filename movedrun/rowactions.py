@@ -9,14 +9,14 @@ from movedrun.values import MOST_ENTRIES, MOST_SIGNS, Fault
 
 def do_work(run, frame, row):
     if row.op.is_anchor:
-        if is_sure_to_fault(run, row.op, row.values(frame.registers)):
+        if is_sure_to_fault(run, row.op, row.operand_values(frame.registers)):
             run.go_out()
             return
         if run.meets_deed():
             return
     rule = row.op.work
     try:
-        found = rule(run, row.op.borne, row.values(frame.registers))
+        found = rule(run, row.op.borne, row.operand_values(frame.registers))
     except Fault:
         run.go_out()
         return
@@ -36,7 +36,7 @@ def is_sure_to_fault(run, op, operands):
 
 
 def do_if(run, frame, row):
-    goes = row.values(frame.registers)[0]
+    goes = row.operand_values(frame.registers)[0]
     if row.op.is_anchor:
         if goes:
             run.look_at_bound()
@@ -57,14 +57,14 @@ def do_beat(run, frame, row):
 
 def do_call(run, frame, row):
     is_ask = row.op.word == "ask"
-    if run.is_full() or (is_ask and row.values(frame.registers)[0] is None):
+    if run.is_full() or (is_ask and row.operand_values(frame.registers)[0] is None):
         run.go_out()
         return
     run.look_at_bound()
     if run.meets_deed():
         return
     run.beat()
-    args = row.values(frame.registers)
+    args = row.operand_values(frame.registers)
     index = row.op.borne
     if is_ask:
         name = run.store.class_of(args[0])
@@ -74,7 +74,7 @@ def do_call(run, frame, row):
 
 
 def do_guard(run, frame, row):
-    thing = row.values(frame.registers)[0]
+    thing = row.operand_values(frame.registers)[0]
     if thing is None or run.store.class_of(thing) != row.borne:
         run.go_out()
     else:
@@ -101,7 +101,7 @@ def do_leave(run, frame, row):
 
 
 def do_done(run, frame, row):
-    run.leave(row.values(frame.registers))
+    run.leave(row.operand_values(frame.registers))
 
 
 def do_moves(run, frame, row):

@@ -85,16 +85,16 @@ class Run:
         self.beat()
         if self.is_full():
             raise Fault("deep")
-        args = frame.take_last(op.takes)
+        handed = frame.take_last(op.takes)
         frame.place += 1
-        self.begin(index, args)
+        self.begin(index, handed)
 
-    def begin(self, index, args):
+    def begin(self, index, handed):
         self.begun[index] += 1
-        self.open_frame(index, args)
+        self.open_frame(index, handed)
 
-    def open_frame(self, index, args):
-        slots = args + [None] * len(self.known.functions[index][3])
+    def open_frame(self, index, handed):
+        slots = handed + [None] * len(self.known.functions[index][3])
         self.frames.append(CodeFrame(index, 0, slots, [], self.codes.code(index)))
 
     def jump(self, frame, to):

@@ -7,35 +7,34 @@ from movedrun.viewforms import fact_registers, leads, sources_of
 class Strip:
     """A strip that is held: told is what it was made of."""
 
-    def __init__(self, told, codes, actions):
+    def __init__(self, told, codes):
         self.told = told
         self.function, entries, rows = told
         self.entries = {place: row for place, row in entries}
         self.codes = codes
-        self.actions = actions
         # Made as they are come to first.
         self.rows = [None] * len(rows)
 
     def row(self, index):
         if self.rows[index] is None:
-            self.rows[index] = StripRow(self.told[2][index], self.codes, self.actions)
+            self.rows[index] = StripRow(self.told[2][index], self.codes)
         return self.rows[index]
 
 
 class StripRow:
     """A row, and the instruction at the place of its view's last frame."""
 
-    def __init__(self, row, codes, actions):
-        self.view, self.facts, self.deed, self.behind = row
-        self.action = actions[self.deed[0]]
+    def __init__(self, row, codes):
+        self.view, self.facts, deed, self.behind = row
+        self.word = deed[0]
         self.function, self.place, _, stack = self.view[-1]
         self.op = codes.code(self.function)[self.place]
         self.operands = stack[len(stack) - self.op.takes:]
         # What of the deed the run of it asks for: a register, a class or pairs.
-        self.borne = self.deed[1] if len(self.deed) > 1 else None
+        self.borne = deed[1] if len(deed) > 1 else None
         self.held = {}
 
-    def values(self, registers):
+    def operand_values(self, registers):
         return [value_of_source(source, registers) for source in self.operands]
 
     def receiver_class(self):

@@ -12,21 +12,21 @@ class ThingStore:
         self.kinds = {name: [kind for _, kind in known.fields(name)] for name in known.names()}
         self.made = {}
 
-    def count(self, word, thing):
+    def counted(self, word, thing):
         self.made[word] = self.made.get(word, 0) + 1
         return thing
 
     def text(self, signs):
-        return self.count("text", Thing("text", signs))
+        return self.counted("text", Thing("text", signs))
 
     def joined(self, first, second):
-        return self.count("text", joined(first, second))
+        return self.counted("text", joined(first, second))
 
     def new(self, name):
-        return self.count(name, Thing(("of", name), [blank(kind) for kind in self.kinds[name]]))
+        return self.counted(name, Thing(("of", name), [blank(kind) for kind in self.kinds[name]]))
 
     def row(self, kind, number):
-        return self.count("row", new_row(kind, number))
+        return self.counted("row", new_row(kind, number))
 
     def field(self, thing, field):
         return slots_of(thing)[field[0]]

@@ -40,7 +40,7 @@ class TieredRun(Run):
             frame = self.frames[-1]
             if isinstance(frame, StripFrame):
                 row = frame.strip.row(frame.row)
-                action = row.action
+                action = ROW_ACTIONS[row.word]
                 action(self, frame, row)
             else:
                 self.step_slow(frame)
@@ -122,7 +122,7 @@ class TieredRun(Run):
             self.strips[frame.function] = self.lifts[key]
 
     def strip(self, told):
-        return Strip(told, self.codes, ROW_ACTIONS)
+        return Strip(told, self.codes)
 
     def guesses(self):
         """For each ask that has begun a method: its receiver's class there last."""
@@ -160,12 +160,12 @@ class TieredRun(Run):
             if isinstance(self.frames[index], StripFrame):
                 self.lay_slow(index)
 
-    def open_frame(self, index, args):
+    def open_frame(self, index, handed):
         """A call, or main's beginning: in a strip, if one is held."""
         if index not in self.strips:
-            super().open_frame(index, args)
+            super().open_frame(index, handed)
             return
-        self.frames.append(self.entered(self.strips[index], 0, args))
+        self.frames.append(self.entered(self.strips[index], 0, handed))
 
     def entered(self, strip, place, values):
         """A frame in a strip at one of its entries, with these values in its first registers."""
