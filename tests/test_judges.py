@@ -118,7 +118,7 @@ class Judging(unittest.TestCase):
             self.assertFalse(self.sound(self.bent(4, remembered)))
 
     def test_grey_row(self):
-        for grey in ((), (59, 59), (41,), (59, 41), (41, 59), (50,), (59, 60), (1,), (0,)):
+        for grey in ((), (59, 59), (41,), (59, 41), (41, 59), (50,), (59, 60), (1,), (0,), (59, None), ("a", 59), (59, (59,))):
             self.assertFalse(self.sound(self.bent(5, grey)))
 
     def test_two_grey_ones_in_any_sequence(self):
@@ -147,6 +147,16 @@ class Judging(unittest.TestCase):
     def test_the_other_half(self):
         """The reference to what lies in the half leads to nothing in the other one."""
         self.assertFalse(self.sound(self.bent(1, 1)))
+        for half in (-1, 0, 1, 2):
+            self.assertEqual(self.sound(((), half, (), (), (), (), False)), half in (0, 1))
+
+    def test_no_black_object_holds_a_white_one(self):
+        """The white one may be the first one of the old room, but not held by a black one."""
+        for colours, right in (((0, 2), False), ((0, 0), True), ((2, 2), True), ((2, 0), True)):
+            old = (192 + colours[0], 0, 64 + colours[1], 1, OLD)
+            self.assertEqual(self.sound(((), 0, (), old, (), (), True)), right, colours)
+            old = (64 + colours[1], 1, OLD + 3, 192 + colours[0], 0)
+            self.assertEqual(self.sound(((), 0, (), old, (), (), True)), right, colours)
 
     def test_rooms_hold_no_more_than_there_is_room(self):
         full = (192, 0) * 10

@@ -12,7 +12,7 @@ from movedrun.judges import is_sound
 from movedrun.plains import PlainHeap, alike
 from tests.naiveheap import Lying, NaiveHeap
 
-SHAPES = ((), (True, False), (False, True, True), (True,) * 5)
+SHAPES = ((True, False), (), (False, True, True), (True,) * 5)
 SIZES = ((16, 16, 16, 2), (16, 0, 4, 1), (40, 20, 10, 3), (64, 64, 20, 7), (16, 7, 5, 2), (24, 4096, 24, 4))
 
 
@@ -46,7 +46,8 @@ class Walk:
         counts = self.heap.counts()
         numbers, things = self.heap.graph(self.roots)
         self.test.assertEqual(self.heap.unreached(self.roots), sum(counts[3:]) - len(things))
-        self.test.assertEqual(counts[:3], tuple(len(picture[at]) for at in (0, 2, 3)))
+        rooms = (self.naive.nursery, self.naive.halves[self.naive.half], self.naive.old)
+        self.test.assertEqual(counts, tuple(len(picture[at]) for at in (0, 2, 3)) + tuple(len(room) for room in rooms))
         self.test.assertEqual((numbers, things), self.graph())
         self.test.assertEqual(self.plain.graph(self.numbers), (numbers, things))
         self.test.assertIs(alike(self.heap, self.roots, self.plain, self.numbers), True)
