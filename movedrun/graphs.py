@@ -66,7 +66,7 @@ class Finding:
             return ("text", self.store.signs(thing))
         if class_of(kind) is not None:
             name = self.store.class_of(thing)
-            return ("of", name, self.values(thing, [kind for _, kind in self.known.fields(name)]))
+            return ("of", name, self.values(thing, [own for _, own in self.known.fields(name)]))
         entry = entry_of(kind)
         return ("row", entry, self.values(thing, [entry] * self.store.size(thing)))
 

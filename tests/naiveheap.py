@@ -26,6 +26,8 @@ class NaiveHeap:
         self.old = []
         self.grey = []
         self.marking = False
+        # How many whole collections have ended.
+        self.ends = 0
 
     def links(self, kind, many):
         if kind >= 0:
@@ -133,6 +135,7 @@ class NaiveHeap:
         for thing in self.old:
             thing.colour = WHITE
         self.marking = False
+        self.ends += 1
 
     def whole(self, roots):
         if not self.marking:

@@ -12,7 +12,9 @@ from movedrun.strips import lift, strip_holds
 from movedrun.verifier import verify
 from tests.bending import bent_strip
 from tests.generating import made_programs
+from tests.heaprunning import heap_behind
 from tests.spoiling import spoiled
+from tests.test_compiler import Tables
 from tests.test_lift import places_of
 
 SCHEDULES = (
@@ -81,6 +83,23 @@ class Tiers(unittest.TestCase):
             self.assertGreaterEqual(machine.unreached(), 0)
             self.assertGreaterEqual(machine.unreached() + things, len(picture[5]))
         return machine
+
+    def test_pictures_of_the_heap(self):
+        """By code alone each picture is that of a second machine, on a second heap: roots, makes and deeds in their sequence."""
+        chance = random.Random(5)
+        ends = 0
+        for _, module in self.modules(chance, 14000, 12):
+            tables = Tables(module)
+            given = tuple(chance.randrange(-3, 9) for _ in range(chance.randrange(6)))
+            for schedule in ((), (1,), (0, 2), (4, 1), (3, 5, 0), tuple(chance.randrange(6) for _ in range(20))):
+                sizes = chance.choice(SIZES)
+                machine = Machine(module, given, sizes, schedule)
+                for bound in (0, 3, 40):
+                    outcome, picture, collected = heap_behind(module, given, bound, tables, sizes, schedule)
+                    self.assertEqual(machine.run(bound), outcome)
+                    self.assertEqual((machine.heap(), machine.collected()), (picture, collected))
+                ends += sum(machine.collected())
+        self.assertGreater(ends, 500)
 
     def test_bent_strips_that_hold_run_alike(self):
         chance = random.Random(4)

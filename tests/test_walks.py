@@ -118,9 +118,13 @@ class Walk:
             self.test.assertEqual((word, number), (value or 0, value or 0))
 
     def minor(self):
+        young = sum(self.heap.counts()[:2])
+        old = self.heap.counts()[2]
         self.roots = self.heap.minor(self.roots)
         self.naive.minor(self.things)
         self.test.assertEqual(self.heap.counts()[0], 0)
+        # The old room grows by what was young at most.
+        self.test.assertLessEqual(self.heap.counts()[2], old + young)
 
     def settle(self):
         self.roots = self.heap.settle(self.roots)
@@ -138,17 +142,26 @@ class Walk:
         self.test.assertTrue(self.heap.is_marking())
 
     def slice(self):
-        count = self.random.choice((0, 1, 2, 7))
+        # As many as there are in the old room are enough to end it, if it does not begin just then.
+        many = self.heap.counts()[5] if self.heap.is_marking() else 10 ** 6
+        count = self.random.choice((0, 1, 2, 7, many))
         self.roots = self.heap.slice(count, self.roots)
         self.naive.slice(count, self.things)
+        if count == many:
+            self.test.assertFalse(self.heap.is_marking())
 
     def whole(self):
         at_rest = not self.heap.is_marking()
         self.roots = self.heap.whole(self.roots)
         self.naive.whole(self.things)
         self.test.assertFalse(self.heap.is_marking())
+        self.test.assertEqual(self.heap.counts()[:2], (0, 0))
+        self.test.assertEqual(self.heap.remembered(), ())
         if at_rest:
+            # Just what is reached is left, side by side.
+            _, things = self.heap.graph(self.roots)
             self.test.assertEqual(self.heap.unreached(self.roots), 0)
+            self.test.assertEqual(self.heap.counts()[2], sum(2 + len(body) for _, body in things))
 
     def drop(self):
         if len(self.things) > 6:
