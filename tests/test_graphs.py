@@ -70,7 +70,7 @@ class Graphs(unittest.TestCase):
                       ("row", "nil", ()), ("row", "mixed", ()), ("row", "A", ()), ("row", ("of", "self"), ()), ("row", "int", [0]),
                       ("row", "int", ("unset",)), ("row", ("row", ("row", ("row", ("row", "int")))), ()), ("row", "int"),
                       ("text", None), ("text", "\""), ("text", "a" + chr(37)), ("text", "\n"), ("text", "x", ()), ("text",),
-                      ("text", ()), ("row", "int", (2 ** 31,)), ("Text", ""), (1, ""), ("row", "int", "")):
+                      ("text", ()), ("row", "int", (2 ** 31,)), ("Text", ""), (1, ""), ("row", "int", ""), ("Row", "int", ()), ("", "int", ()), (None, "int", ()), (0, "A", ())):
             self.assertFalse(self.is_graph(with_thing(thing)), thing)
 
     def test_sizes(self):
@@ -85,7 +85,8 @@ class Graphs(unittest.TestCase):
     def test_unequal_ones(self):
         for one, other in (
             (with_value(1), with_value(True)), (with_value(0), with_value(False)), (with_value(None), with_value(0)),
-            (with_value("unset"), with_value(None)), (with_value(("thing", 0)), with_value(("thing", 1))),
+            (with_value("unset"), with_value(None)), (with_value(("thing", 0)), with_value(None)), (with_value(("thing", 0)), with_value(0)),
+            (with_value(("thing", 0)), with_value("unset")), (with_value(("thing", 0)), with_value(("thing", 1))),
             (with_thing(("row", "int", (1,))), with_thing(("row", "int", (True,)))),
             (with_thing(("of", "A", (0,))), with_thing(("of", "B", (0,)))),
             (with_thing(("of", "A", (0,))), with_thing(("of", "A", (0, 0)))),

@@ -9,6 +9,7 @@ from movedrun.meaning import mean
 from movedrun.plain import (
     calls_of, counts, frames_at, graph_size, made, reached_from_main, run_plain, same_graph
 )
+from movedrun.programs import read_program
 from movedrun.verifier import verify
 from tests.building import EXAMPLE
 from tests.generating import made_programs
@@ -34,7 +35,7 @@ class Runs(unittest.TestCase):
             ("int 1 ; int 2 ; twin ; show ; drop ; show ; done", (2, 1)),
             ("int 2147483647 ; int 1 ; add ; show ; done", (-2147483648,)),
             ("text ab ; text c ; add ; show ; done", ("abc",)),
-            ("int 1 ; int 3 ; sub ; show ; int 65536 ; int 65536 ; mul ; show ; done", (-2, 0)),
+            ("int 1 ; int 3 ; sub ; show ; int 65536 ; int 65536 ; mul ; show ; int 3 ; int -5 ; mul ; show ; done", (-2, 0, -15)),
             ("int -7 ; int 2 ; div ; show ; int -7 ; int 2 ; rem ; show ; done", (-3, -1)),
             ("int -2147483648 ; int -1 ; div ; show ; int -2147483648 ; int -1 ; rem ; show ; done", (-2147483648, 0)),
             ("int 1 ; int 2 ; less ; show ; int 2 ; int 2 ; less ; show ; done", (True, False)),
@@ -127,6 +128,15 @@ class Runs(unittest.TestCase):
             self.assertEqual(verify(module), None)
             outcome = shown_by(4) if caught else ("fault", ("thrown", "inner"), ())
             self.assertEqual(run_plain(module, (), 10), outcome)
+
+    def test_each_frame_that_waits_is_asked_from_the_innermost_on(self):
+        module = compiled(read_program(
+            "class A { int n ; } class B above A { } def hit ( A a , int k ) { if ( k < 1 ) { throw a ; } else { ( hit ( a , ( k - 1 ) ) ) ; } } "
+            "def one ( A a , int k ) { try { ( hit ( a , k ) ) ; show 1 ; } catch B e { show 2 ; a . n = ( ( a . n ) + 1 ) ; } show ( a . n ) ; } "
+            "def two ( A a , int k ) : int { try { ( one ( a , k ) ) ; show 3 ; } catch A e { show ( ( e = a ) and ( not ( e is B ) ) ) ; return k ; } return 7 ; } "
+            "def main ( ) { var int i = 0 ; while ( i < 3 ) { show ( two ( ( new A ) , i ) ) ; show ( two ( ( new B ) , i ) ) ; i = ( i + 1 ) ; } ( hit ( ( new B ) , 2 ) ) ; }"))
+        shown = tuple(value for index in range(3) for value in (True, index, 2, 1, 3, 7))
+        self.assertEqual(run_plain(module, (), 1000), ("fault", ("thrown", "hit"), shown))
 
     def test_the_first_catch_that_fits_is_taken(self):
         for names, value in ((("D", "A", "B"), 2), (("B", "A", "D"), 1), (("E", "C", "B"), 3)):
