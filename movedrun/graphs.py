@@ -66,9 +66,9 @@ class Finding:
             return ("text", self.store.signs(thing))
         if class_of(kind) is not None:
             name = self.store.class_of(thing)
-            return ("of", name, self.values(thing, [own for _, own in self.known.fields(name)]))
+            return ("of", name, self.told_values(thing, [own for _, own in self.known.fields(name)]))
         entry = entry_of(kind)
-        return ("row", entry, self.values(thing, [entry] * self.store.size(thing)))
+        return ("row", entry, self.told_values(thing, [entry] * self.store.size(thing)))
 
-    def values(self, thing, kinds):
+    def told_values(self, thing, kinds):
         return tuple([self.value(value, kind) for value, kind in zip(self.store.held(thing, kinds), kinds)])

@@ -26,7 +26,7 @@ class Lifting:
         self.led = 0
         self.merging = {}
 
-    def strip(self, function):
+    def strip_of(self, function):
         """The strip of a function; TooGreat if it would be too great."""
         entries = []
         for place in entry_places(self.known, function):
@@ -196,6 +196,6 @@ def lifted(known, codes, function, guesses, opened):
         known, codes, {(index, place): name for index, place, name in guesses}, {place: True for place in opened}
     )
     try:
-        return lifting.strip(function)
+        return lifting.strip_of(function)
     except TooGreat:
         return None

@@ -84,7 +84,7 @@ class Machine:
         """Lets the machine hold a strip, in the place of one that its function has."""
         if not StripLook(self.inner.known, self.inner.codes).holds(strip):
             raise BadStrip("this is no strip that is right for the module")
-        self.inner.strips[strip[0]] = self.inner.strip(strip)
+        self.inner.strips[strip[0]] = self.inner.ready_strip(strip)
 
     def forget(self, function):
         """A function has no strip any more; frames that are in it stay there."""

@@ -14,7 +14,7 @@ MOST_REGISTERS = 200
 
 
 class TieredRun(Run):
-    """A run of which each function may have a strip; heaps deeds keep its roots."""
+    """A run in which each function may have a strip; what the heap moves is laid back into the frames."""
 
     def __init__(self, known, codes, given, heap, schedule):
         super().__init__(known, codes, given)
@@ -117,11 +117,11 @@ class TieredRun(Run):
         if key not in self.lifts:
             opened = self.opened_places() if is_guessing else ()
             made = lifted(self.known, self.codes, frame.function, guesses, opened)
-            self.lifts[key] = None if made is None else self.strip(made)
+            self.lifts[key] = None if made is None else self.ready_strip(made)
         if self.lifts[key] is not None:
             self.strips[frame.function] = self.lifts[key]
 
-    def strip(self, told):
+    def ready_strip(self, told):
         return Strip(told, self.codes)
 
     def guesses(self):
