@@ -185,6 +185,30 @@ class Loops(Judging):
         self.assertTrue(self.holds(self.added(strip, (at(4, n(1), n(1), n(3)), (), ("moves", ((0, n(1)),)), 4))))
         self.assertFalse(self.holds(self.added(strip, (at(11, n(2)), (), ("moves", ((0, n(1)),)), 4))))
 
+    def test_an_entry_with_values_on_the_stack(self):
+        self.module = with_code(*read_code("read ; read ; twin ; show ; jump 2"))
+        end = ((((0, 3, (), (r(0), r(1), r(1))),), (), ("do", None), 3), (((0, 4, (), (r(0), r(1))),), (), ("beat",), 2))
+        rows = ((((0, 0, (), ()),), (), ("do", 0), 1), (((0, 1, (), (r(0),)),), (), ("do", 1), 2)) + end
+        self.assertTrue(self.holds((0, ((0, 0), (2, 2)), rows)))
+        end = ((((0, 3, (), (r(1), r(0), r(0))),), (), ("do", None), 3), (((0, 4, (), (r(1), r(0))),), (), ("beat",), 2))
+        rows = ((((0, 0, (), ()),), (), ("do", 1), 1), (((0, 1, (), (r(1),)),), (), ("do", 0), 2)) + end
+        self.assertFalse(self.holds((0, ((0, 0), (2, 2)), rows)))
+
+    def test_a_jump_to_its_own_place_has_an_entry(self):
+        self.module = with_code(*read_code("int 1 ; drop ; jump 2"))
+        rows = ((((0, 2, (), ()),), (), ("beat",), 0),)
+        self.assertTrue(self.holds((0, ((0, 0), (2, 0)), rows)))
+        self.assertFalse(self.holds((0, ((0, 0),), rows)))
+
+    def test_what_cannot_be_come_to_has_no_entry(self):
+        self.module = with_code(*read_code("done ; int 1 ; drop ; jump 1"))
+        rows = ((((0, 0, (), ()),), (), ("done",), None),)
+        self.assertTrue(self.holds((0, ((0, 0),), rows)))
+        self.module = with_code(*read_code("nil ; int 0 ; at ; drop ; jump 4"))
+        rows = ((((0, 2, (), (NIL, n(0))),), (), OUT, None),)
+        self.assertTrue(self.holds((0, ((0, 0),), rows)))
+        self.assertFalse(self.holds((0, ((0, 0), (4, 0)), rows)))
+
     def test_no_moves_behind_moves(self):
         strip = self.row(9, behind=10)
         self.assertFalse(self.holds(self.added(strip, (at(4, r(0), r(0), n(3)), (), ("moves", ()), 4))))
@@ -398,6 +422,19 @@ class Depths(Judging):
         twice = ((0, 1, (), ()), (0, 0, (), ()))
         self.assertTrue(self.holds((0, ((0, 0),), ((once, (), ("call", None), 1), (((0, 1, (), ()),), (), ("done",), None)))))
         self.assertFalse(self.holds((0, ((0, 0),), ((once, (), ("enter",), 1), (twice, (), OUT, None)))))
+
+    def test_kinds_of_a_frame_that_waits_are_those_of_its_call(self):
+        """Behind the call the value is mixed, as another way comes there with an int."""
+        self.module = module_of(
+            function_of(name="main", code=read_code("read ; int 0 ; less ; if 6 ; int 5 ; jump 8 ; new A ; call 1 ; drop ; done")),
+            function_of(name="f", code=read_code("read ; show ; done")), classes=(("A", None, (), ()),))
+        waits = (0, 8, (), (r(0),))
+        rows = ((((0, 0, (), ()),), (), ("do", 0), 1), (((0, 2, (), (r(0), n(0))),), (), ("do", 0), 2), (((0, 3, (), (r(0),)),), (), ("if",), (7, 3)),
+                (((0, 6, (), ()),), (), ("do", 0), 4), (((0, 7, (), (r(0),)),), (), ("enter",), 5), ((waits, (1, 0, (), ())), (), ("do", 1), 6),
+                ((waits, (1, 1, (), (r(1),))), (), OUT, None), (((0, 9, (), ()),), (), ("done",), None))
+        self.assertTrue(self.holds((0, ((0, 0),), rows)))
+        extra = ((waits, (1, 1, (), (r(0),))), (), OUT, None)
+        self.assertFalse(self.holds((0, ((0, 0),), rows + (extra,))))
 
     def test_what_is_set_no_more_is_dropped_as_the_callee_ends(self):
         self.module = module_of(

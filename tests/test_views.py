@@ -152,7 +152,7 @@ class Views(unittest.TestCase):
             for source in (n(0), n(-2 ** 31), n(2 ** 31 - 1), t(True), t(False), NIL, r(0), r(10 ** 12)):
                 stack = tuple(source if index == at else r(index) for index in range(6))
                 self.assertEqual(self.is_view(self.at_call(stack=stack)), source[0] in right + ("r",), (at, source))
-        for source in (None, (), "r", ("r",), ("r", -1), ("r", True), ("r", None), ("r", 0, 0), ["r", 0], ("nil", 0), (0, "r"), ("x", 0), ("int",)):
+        for source in (None, (), "r", ("r",), ("r", -1), ("r", True), ("r", None), ("r", 0, 0), ["r", 0], ("nil", 0), (0, "r"), ("x", 0), ("x", True), ("int",)):
             self.assertFalse(self.is_view(self.at_call(stack=(source,) + (r(0),) * 5)), source)
         for source in (n(2 ** 31), n(-2 ** 31 - 1), n(True), n(None), t(1), t(0), t(None), ("text", "a")):
             for at in range(6):
