@@ -1,7 +1,7 @@
 """What each deed of a strip's row leads to, as views tell it.
 
 A way is (view, written, told): the view behind, not yet settled; the register that the deed wrote, or None; and the
-facts that the deed tells. A rule returns the ways of its deed at a row, none where the deed does not fit there.
+facts that the deed tells. A rule returns the ways of its deed at a row, None where the deed does not fit there.
 """
 
 from movedrun.known import slot_kinds
@@ -62,7 +62,7 @@ class Standing:
         """The function that is meant: by a fact, where it is an ask. None if that is not told."""
         if self.op.word == "call":
             return self.op.borne
-        if self.op.word != "ask" or self.fact(self.receiver()) is None:
+        if self.op.word != "ask":
             return None
         return self.op.borne.get(self.fact(self.receiver()))
 
@@ -87,9 +87,7 @@ def stepped_to(known, ahead, frame, to, stack):
 
 
 def ways(standing, deed):
-    """The ways of a deed at a view, None where it does not fit; moves have a rule of their own."""
-    if deed[0] not in RULES:
-        return None
+    """The ways of a deed at a view, None where it does not fit. What moves lead to is told by the row behind them."""
     rule = RULES[deed[0]]
     return rule(standing, deed)
 

@@ -330,6 +330,33 @@ class Asks(Judging):
         rows[1] = rows[1][:1] + (ASK_FACT,) + rows[1][2:]
         self.assertFalse(self.holds((0, ((0, 0),), tuple(rows))))
 
+    def test_the_class_of_a_guard(self):
+        """It is one at or below the ask's; what comes of it need not be used."""
+        for name, right in (("A", True), ("B", True), ("C", True), ("E", True), ("D", False), ("Gone", False)):
+            rows = {index: ASK_ROWS[index][:1] + ((),) + ASK_ROWS[index][2:] for index in (1, 4, 5)}
+            rows[1] = rows[1][:3] + (8,)
+            rows[2] = (ASK_ROWS[2][0], ((0, name),), ("call", 1), 4)
+            rows[3] = (ASK_ROWS[7][0], (), OUT, None)
+            self.assertEqual(self.holds(self.with_rows(rows, (ASK_ROWS[2][0], (), ("guard", name), 2))), right, name)
+
+    def test_nil_is_not_guarded_and_not_entered(self):
+        self.module = tree_module("nil ; read ; ask A m ; show ; done")
+        start = (((0, 1, (), (NIL,)),), (), ("do", 0), 1)
+        view = ((0, 2, (), (NIL, r(0))),)
+        end = ((((0, 3, (), (r(0),)),), (), ("do", None), 3), (((0, 4, (), ()),), (), ("done",), None))
+        self.assertTrue(self.holds((0, ((0, 0),), (start, (view, (), ("call", 0), 2)) + end)))
+        for deed in (("guard", "A"), ("guard", "B"), ("enter",)):
+            self.assertFalse(self.holds((0, ((0, 0),), (start, (view, (), deed, 4)) + end + ((view, (), ("call", 0), 2),))), deed)
+
+    def test_leave_is_of_a_done_alone(self):
+        for text, right in (("load 0 ; done", True), ("load 0 ; show ; load 0 ; done", False)):
+            self.module = module_of(function_of(name="main", code=read_code("read ; call 1 ; show ; done")),
+                                    function_of(name="f", params=("int",), result="int", code=read_code(text)))
+            rows = ((((0, 0, (), ()),), (), ("do", 0), 1), (((0, 1, (), (r(0),)),), (), ("enter",), 2),
+                    (((0, 2, (), ()), (1, 1, (r(0),), (r(0),))), (), ("leave",), 3), (((0, 2, (), (r(0),)),), (), ("do", None), 4),
+                    (((0, 3, (), ()),), (), ("done",), None))
+            self.assertEqual(self.holds((0, ((0, 0),), rows)), right)
+
     def test_behind_a_guard_stands_neither_guard_nor_moves(self):
         moves = (ASK_ROWS[2][0], ASK_FACT, ("moves", ()), 2)
         strip = self.guarded("B", moves)
@@ -457,6 +484,7 @@ class Words(Judging):
             ("text ab", (), True), ("new A", (), True), ("read", (), True), ("int 2 ; row int", (n(2),), True), ("int 2 ; tell", (n(2),), True),
             ("nil ; size", (NIL,), True), ("nil ; int 0 ; sign", (NIL, n(0)), True), ("nil ; is A", (NIL,), True), ("nil ; as A", (NIL,), True),
             ("nil ; get A n", (NIL,), True), ("nil ; int 1 ; put A n", (NIL, n(1)), False), ("int 1 ; show", (n(1),), False),
+            ("nil ; nil ; add", (NIL, NIL), True),
         ):
             self.module = tree_module(text + (" ; drop ; done" if puts else " ; done"))
             place = len(operands)
@@ -476,11 +504,21 @@ class Words(Judging):
             self.assertTrue(self.holds((0, ((0, 0),), ((view, (), OUT, None),))))
             self.assertFalse(self.holds((0, ((0, 0),), ((view, (), ("do", 0), 1), (((0, 4, (), ()),), (), ("done",), None)))))
 
+    def test_an_at_of_nil_s_own_kind_leads_nowhere(self):
+        for text in ("nil ; int 0 ; at ; drop ; done", "nil ; int 0 ; at ; jump 3"):
+            self.module = tree_module(text)
+            view = ((0, 2, (), (NIL, n(0))),)
+            self.assertTrue(self.holds((0, ((0, 0),), ((view, (), OUT, None),))))
+            for number in (0, None):
+                self.assertFalse(self.holds((0, ((0, 0),), ((view, (), ("do", number), 0),))))
+
     def test_an_if_of_a_constant_that_goes_back(self):
         self.module = tree_module("truth true ; if 0 ; done")
         view = ((0, 1, (), (("truth", True),)),)
         self.assertTrue(self.holds((0, ((0, 0),), ((view, (), OUT, None),))))
-        self.assertFalse(self.holds((0, ((0, 0),), ((view, (), ("if",), (0, 0)),))))
+        rows = ((view, (), ("if",), (1, 0)), (((0, 2, (), ()),), (), ("done",), None))
+        self.assertFalse(self.holds((0, ((0, 0),), rows)))
+        self.assertTrue(self.holds((0, ((0, 0),), ((view, (), OUT, None),) + rows[1:])))
 
     def test_a_throw_is_done_by_going_out(self):
         self.module = tree_module("new B ; throw ; is B ; show ; done", catches=((0, 2, 2, "A"),))
