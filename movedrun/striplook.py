@@ -85,7 +85,7 @@ class StripLook:
 
     def is_way_to(self, way, facts, row):
         view, written, told = way
-        if view is None or not self.follows(row, view):
+        if not self.follows(row, view):
             return False
         return are_kept(row[1], [fact for fact in facts if fact[0] != written] + list(told))
 

@@ -109,6 +109,17 @@ class Promises(Lifting):
         words = [row[2][0] for row in self.lifts(module)[2]]
         self.assertEqual((words.count("guard"), words.count("enter"), words.count("call")), (0, 0, 3))
 
+    def test_a_guard_where_ways_meet(self):
+        """Behind the guard stands the ask itself, no moves, though more than one way leads to its place."""
+        module = tree_module("new A ; as A ; store 0 ; read ; int 0 ; less ; if 10 ; load 0 ; int 1 ; jump 12 ; load 0 ; int 2 ; ask A m ; show ; jump 3",
+                             own=(("of", "A"),))
+        for opened in ((), ((0, 12),)):
+            strip = self.lifts(module, 0, ((0, 12, "A"),), opened)
+            words = [row[2][0] for row in strip[2]]
+            self.assertIn("guard", words)
+            self.assertIn("moves", words)
+            self.assertIsNone(runs_alike(module, (1, -1, 2, -2), 30, (16, 8, 8, 2), (0, 8), (strip,)))
+
     def test_an_ask_of_nil(self):
         module = tree_module("nil ; read ; ask A m ; show ; done")
         self.lifts(module)

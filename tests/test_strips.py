@@ -115,7 +115,7 @@ class Loops(Judging):
         for index, right in ((0, "beat"), (3, "done"), (4, "do"), (5, "if"), (9, "moves")):
             for deed in (("beat",), ("done",), ("do", 1), ("do", None), ("if",), ("call", 1), ("call", None), ("enter",), ("leave",),
                          ("guard", "A"), ("moves", ()), None, (), "out", ("out", None), ["out"], ("do",), ("do", 1, 2), ("if", 1), ("beat", 0),
-                         ("Done",), (None,), (0,), ("moves",), ("moves", None), ("guard",), ("guard", None), ("guard", 5), ("call",)):
+                         ("Done",), ("Moves", ()), ("xyz", ()), (None,), (0,), ("moves",), ("moves", None), ("guard",), ("guard", None), ("guard", 5), ("call",)):
                 if deed is None or deed == () or deed[0] != right or len(deed) != len(LOOP_ROWS[index][2]):
                     for behind in (LOOP_ROWS[index][3], None, 1, (6, 7)):
                         self.assertFalse(self.holds(self.row(index, deed=deed, behind=behind)), (index, deed))
@@ -130,7 +130,7 @@ class Loops(Judging):
 
     def test_rows_behind(self):
         for index, behind in ((0, None), (0, 2), (0, True), (0, 10), (0, -1), (0, (1, 1)), (3, 3), (3, (1, 1)), (4, None), (4, 6), (5, 6), (5, (7, 6)),
-                              (5, (6,)), (5, (6, 7, 7)), (5, [6, 7]), (5, None), (5, (6, 10)), (5, (True, 7)), (9, None), (9, 5), (9, 9), (9, 8)):
+                              (5, (6,)), (5, (6, 7, 7)), (5, [6, 7]), (5, None), (5, (6, 10)), (5, (10, 7)), (5, (-4, 7)), (5, (6, -3)), (5, (True, 7)), (9, None), (9, 5), (9, 9), (9, 8)):
             self.assertFalse(self.holds(self.row(index, behind=behind)), (index, behind))
 
     def test_registers_that_are_written(self):
@@ -233,6 +233,11 @@ class Loops(Judging):
         self.assertTrue(self.holds(self.added(LOOP_STRIP, *(row,) * (4000 - len(LOOP_ROWS)))))
         self.assertFalse(self.holds(self.added(LOOP_STRIP, *(row,) * (4001 - len(LOOP_ROWS)))))
 
+    def test_registers_of_views(self):
+        for number, right in ((0, True), (199, True), (200, False), (10 ** 9, False)):
+            self.assertEqual(self.holds(self.added(LOOP_STRIP, (at(5, r(number), r(9)), (), OUT, None))), right)
+            self.assertEqual(self.holds(self.added(LOOP_STRIP, (at(5, r(9), r(number)), (), OUT, None))), right)
+
     def test_each_row_is_looked_at_though_none_leads_there(self):
         self.assertTrue(self.holds(self.added(LOOP_STRIP, (at(5, r(3), r(9)), (), OUT, None))))
         self.assertFalse(self.holds(self.added(LOOP_STRIP, (at(5, r(3), r(9)), (), ("done",), None))))
@@ -279,6 +284,31 @@ class Asks(Judging):
         self.assertFalse(self.holds(self.row(6, facts=((2, "B"),))))
         self.assertFalse(self.holds(self.row(0, facts=((0, "B"),))))
 
+    def test_facts_of_rows_to_which_none_leads(self):
+        view = ASK_ROWS[2][0]
+        for facts, right in (((), True), (((0, "B"),), True), (((0, "E"),), True), (((1, "B"),), False), (((5, "B"),), False), (((0, "class"),), False),
+                             (((0, "2B"),), False), (((0, 5),), False), (((0, "B"), (0, "E")), False)):
+            self.assertEqual(self.holds(self.added(self.strip, (view, facts, OUT, None))), right, facts)
+
+    def test_an_entry_has_no_facts(self):
+        self.module = module_of(function_of(name="main"), function_of(name="f", params=(("of", "A"),), code=read_code("load 0 ; get A n ; show ; done")),
+                                classes=(("A", None, (("n", "int"),), ()),))
+        for facts, right in (((), True), (((0, "A"),), False)):
+            self.assertEqual(self.holds((1, ((0, 0),), ((((1, 1, (r(0),), (r(0),)),), facts, OUT, None),))), right)
+
+    def test_facts_go_along_with_moves_but_of_what_is_written(self):
+        self.module = tree_module("new B ; new E ; read ; drop ; drop ; drop ; done")
+        facts = ((0, "B"), (1, "E"))
+        for pairs, sources, kept, right in (
+            ((), (0, 1), facts, True), ((), (0, 1), facts[:1], True), ((), (0, 1), (), True), (((2, r(1)),), (0, 2), facts[:1], True),
+            (((2, r(1)),), (0, 2), ((0, "B"), (2, "E")), False), (((1, r(1)),), (0, 1), facts, False), (((1, r(1)),), (0, 1), facts[:1], True),
+            (((0, r(1)), (1, r(0))), (1, 0), facts, False), (((0, r(1)), (1, r(0))), (1, 0), (), True),
+        ):
+            rows = ((((0, 0, (), ()),), (), ("do", 0), 1), (((0, 1, (), (r(0),)),), facts[:1], ("do", 1), 2),
+                    (((0, 2, (), (r(0), r(1))),), facts, ("moves", pairs), 3), (((0, 2, (), (r(sources[0]), r(sources[1]))),), kept, ("do", 7), 4),
+                    (((0, 6, (), ()),), (), ("done",), None))
+            self.assertEqual(self.holds((0, ((0, 0),), rows)), right, (pairs, kept))
+
     def test_two_facts_ascend(self):
         self.module = tree_module("new A ; new D ; drop ; drop ; done")
         def rows(facts):
@@ -293,6 +323,11 @@ class Asks(Judging):
 
     def test_a_fact_goes_when_its_register_is_written(self):
         self.assertFalse(self.holds(self.with_rows({1: ASK_ROWS[1][:2] + (("do", 0), 2)})))
+        self.module = tree_module("new B ; as A ; get A n ; drop ; done")
+        for facts, right in (((), True), (((0, "B"),), False)):
+            rows = ((((0, 0, (), ()),), (), ("do", 0), 1), (((0, 1, (), (r(0),)),), ((0, "B"),), ("do", 0), 2),
+                    (((0, 2, (), (r(0),)),), facts, ("do", 1), 3), (((0, 4, (), ()),), (), ("done",), None))
+            self.assertEqual(self.holds((0, ((0, 0),), rows)), right)
         self.module = tree_module("new B ; drop ; nil ; as A ; get A n ; drop ; done")
         for facts, right in (((), True), (((0, "B"),), False)):
             rows = ((((0, 0, (), ()),), (), ("do", 0), 1), (((0, 3, (), (NIL,)),), (), ("do", 0), 2),
@@ -411,6 +446,11 @@ class Asks(Judging):
         self.assertFalse(self.holds((0, ((0, 0),), rows + (extra,))))
         extra = (((0, 2, (), (r(0), r(1))),), (), OUT, None)
         self.assertTrue(self.holds((0, ((0, 0),), rows + (extra,))))
+        self.module = tree_module("truth true ; text a ; nil ; read ; drop ; drop ; drop ; drop ; done")
+        rows = ((((0, 1, (), (("truth", True),)),), (), ("do", 0), 1), (((0, 3, (), (("truth", True), r(0), NIL)),), (), ("do", 1), 2),
+                (((0, 8, (), ()),), (), ("done",), None))
+        for sources, right in (((r(0), r(1), r(1)), True), ((r(0), r(0), r(1)), False), ((r(0), r(1), r(0)), False), ((r(0), r(1), NIL), True)):
+            self.assertEqual(self.holds((0, ((0, 0),), rows + ((((0, 3, (), sources),), (), OUT, None),))), right, sources)
 
     def test_what_is_mixed_does_not_count(self):
         self.module = tree_module("read ; truth true ; if 5 ; int 1 ; jump 6 ; truth false ; text a ; drop ; drop ; drop ; done")
@@ -449,6 +489,8 @@ class Depths(Judging):
         twice = ((0, 1, (), ()), (0, 0, (), ()))
         self.assertTrue(self.holds((0, ((0, 0),), ((once, (), ("call", None), 1), (((0, 1, (), ()),), (), ("done",), None)))))
         self.assertFalse(self.holds((0, ((0, 0),), ((once, (), ("enter",), 1), (twice, (), OUT, None)))))
+        self.assertFalse(self.holds((0, ((0, 0),), ((once, (), OUT, None), (twice, (), OUT, None)))))
+        self.assertTrue(self.holds((0, ((0, 0),), ((once, (), OUT, None), (once, (), OUT, None)))))
 
     def test_kinds_of_a_frame_that_waits_are_those_of_its_call(self):
         """Behind the call the value is mixed, as another way comes there with an int."""
