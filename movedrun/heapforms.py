@@ -81,7 +81,7 @@ def are_roots(roots, is_object):
 
 def shape_links(shape):
     """The indexes of a class's reference slots."""
-    return tuple([index for index, is_link in enumerate(shape) if is_link])
+    return tuple([index for index, truth in enumerate(shape) if truth])
 
 
 def is_link(shapes, kind, slot):

@@ -109,9 +109,9 @@ class Lifting:
         elif deed[0] == "if":
             self.rows[index][3] = tuple([self.row_behind(way[0], facts) for way in found])
         elif found != ():
-            view, written, told = found[0]
-            kept = tuple(sorted([fact for fact in facts if fact[0] != written] + list(told)))
-            self.rows[index][3] = self.row_behind(view, kept)
+            # What is written stood nowhere in the view, so no fact was of it.
+            view, _, told = found[0]
+            self.rows[index][3] = self.row_behind(view, tuple(sorted(facts + told)))
 
     def deed(self, standing):
         word = standing.op.word

@@ -244,6 +244,21 @@ class Sizes(Lifting):
         self.lifts(module)
         self.lifts(module, 0, (), opened[:100])
 
+    def test_too_many_registers_where_ways_meet(self):
+        """Until then all is constant; then it is brought into registers."""
+        for many, fits in ((80, True), (100, True), (101, False), (120, False)):
+            f = function_of(name="f", code=read_code(
+                "int 1 ; " * many + f"read ; int 0 ; less ; if {many + 6} ; truth true ; drop ; " + "drop ; " * many + "done"))
+            main = function_of(name="main", code=read_code("int 2 ; " * 100 + "call 1 ; " + "drop ; " * 100 + "done"))
+            module = module_of(main, f)
+            self.assertEqual(verify(module), None)
+            strip = lift(module, 0, (), ((0, 100),))
+            self.assertEqual(strip is not None, fits, many)
+            if fits:
+                self.keeps(module, strip, (), ((0, 100),))
+            self.lifts(module)
+            self.lifts(module, 1)
+
     def test_too_many_registers(self):
         f = function_of(name="f", code=read_code("read ; " * 100 + "drop ; " * 100 + "done"))
         main = function_of(name="main", code=read_code("read ; " * 110 + "call 1 ; " + "drop ; " * 110 + "done"))
