@@ -3,7 +3,7 @@
 from movedrun.errors import BadCount, BadIndex, BadSchedule, BadStrip
 from movedrun.forms import is_between, is_tuple_to
 from movedrun.graphforms import are_equal
-from movedrun.heapforms import MOST_SLICE, look_at_sizes
+from movedrun.heapforms import look_at_sizes
 from movedrun.heaps import Heap, copy_of_heap
 from movedrun.known import Known
 from movedrun.ops import Codes
@@ -100,8 +100,6 @@ class Machine:
         self.inner.settle()
 
     def slice(self, count):
-        if not is_between(count, 0, MOST_SLICE):
-            raise BadCount("this is no integer from 0 to 1,000,000")
         self.inner.slice(count)
 
     def whole(self):

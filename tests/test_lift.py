@@ -287,7 +287,7 @@ class Refusing(unittest.TestCase):
                         ((0, 3, "B"),), ((8, 2, "B"),), ((-1, 2, "B"),), ((0, 99, "B"),), ((0, -1, "B"),), ((False, 2, "B"),), ((0, True, "B"),), (ask + ("B",), ask + ("E",)),
                         (ask + ("B",),) * 2, ((0, 7, "D"), ask + ("B",)), (("0", 2, "B"),), ((0, None, "B"),), (ask + (("B",),),)):
             self.refused(BadGuesses, module, 0, guesses, None)
-        for opened in (None, [], 0, (None,), ([0, 2],), (ask + ("B",),), ((0,),), ((0, 3),), ((8, 0),), ((0, 99),), ((-1, 0),), ((False, 2),), ((0, True),), (ask, ask),
+        for opened in (None, [], 0, (None,), ([0, 2],), (ask + ("B",),), ((0,),), ((0, 3),), ((8, 0),), ((0, 99),), ((0, 9),), ((0, 10),), ((-1, 0),), ((False, 2),), ((0, True),), (ask, ask),
                        ((0, 4), (0, 2)), (("0", 2),), ((0, None),)):
             self.refused(BadOpened, module, 0, (), opened)
             self.refused(BadOpened, module, 0, (ask + ("E",),), opened)
