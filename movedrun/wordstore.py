@@ -45,8 +45,6 @@ class WordStore:
         return self.new_text([ord(sign) for sign in signs])
 
     def joined(self, first, second):
-        if first is None or second is None:
-            raise Fault("nil")
         many = self.size(first) + self.size(second)
         if many > MOST_SIGNS:
             raise Fault("size")

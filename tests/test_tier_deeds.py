@@ -118,6 +118,28 @@ class Deeds(unittest.TestCase):
                 self.assertEqual(machine.run(400), run_plain(module, (), 400))
                 self.assertEqual(machine.beats(), 200)
 
+    def test_the_depth_behind_frames_that_were_opened_and_left(self):
+        module = module_of(function_of(name="main", code=read_code("call 1 ; call 1 ; call 1 ; call 2 ; done")), function_of(name="f"),
+                           function_of(name="g", code=read_code("call 3 ; call 2 ; done")), function_of(name="h", code=read_code("text a ; drop ; done")))
+        opened = tuple(place for place in opened_of(module, "call") if place not in ((0, 3), (2, 1)))
+        strips = tuple(lift(module, index, (), opened) for index in (0, 2))
+        for schedule in ((), (8, 0), (0, 0, 0, 9, 6), (0, 7)):
+            machine = self.machine(module, schedule, strips=strips)
+            for bound in (3, 50, 400, 401, 402, 403, 404, 1000):
+                self.assertEqual(machine.run(bound), run_plain(module, (), bound), (schedule, bound))
+            self.assertEqual(run_plain(module, (), 1000), ("fault", ("deep", "g"), ()))
+
+    def test_nil_in_a_strip_that_waits(self):
+        """What is nil all the time stands in no register, and what is called collects."""
+        module = module_of(
+            function_of(name="main", own=("text", ("of", "A")), code=read_code("nil ; store 0 ; new A ; store 1 ; nil ; nil ; load 1 ; call 1 ; drop ; drop ; drop ; load 0 ; size ; show ; done")),
+            function_of(name="f", code=read_code("new A ; drop ; text a ; drop ; done")), classes=(("A", None, (), ()),))
+        self.assertEqual(verify(module), None)
+        for strips in self.strips(module):
+            for schedule in ((1,), (4,), (0, 5), (9, 1)):
+                self.assertIsNone(runs_alike(module, (), 5, (16, 8, 4, 2), schedule, strips))
+                self.assertEqual(outlived(module, (), 5, (16, 8, 4, 2), schedule, strips), 0)
+
     def test_deed_nine_lays_all_frames(self):
         module = module_of(*[function_of(name=f"f{index}", code=read_code(f"call {index + 1} ; done" if index < 4 else "jump 0")) for index in range(5)])
         strips = tuple(lift(module, index, (), ()) for index in range(5))
@@ -165,13 +187,13 @@ class Deeds(unittest.TestCase):
         """main's strip enters h and, by the fact of new, the ask in it; the slow h of k then is lifted with that guess."""
         h = ("h", (("of", "A"),), None, (), read_code("text a ; drop ; load 0 ; int 1 ; ask A m ; drop ; done"), ())
         k = ("k", (), None, (), read_code("new A ; call 8 ; done"), ())
-        main = ("main", (), None, (), read_code("new B ; call 8 ; call 9 ; jump 0"), ())
+        main = ("main", (), None, (("of", "D"),), read_code("new D ; store 0 ; new B ; call 8 ; call 9 ; jump 2"), ())
         module = (TREE, (main, *OTHERS, h, k), 0)
         self.assertEqual(verify(module), None)
-        strip = lift(module, 0, (), ((0, 1), (8, 4)))
+        strip = lift(module, 0, (), ((0, 3), (8, 4)))
         self.assertEqual([row[2][0] for row in strip[2]].count("enter"), 2)
-        # The anchors: new, the call of h, its text, the ask; the call of k, its new and its call of h, and the text there.
-        machine = self.machine(module, (0,) * 7 + (7,), strips=(strip,))
+        # The anchors: two new, the call of h, its text, the ask; the call of k, its new and its call of h, and the text there.
+        machine = self.machine(module, (0,) * 8 + (7,), strips=(strip,))
         machine.run(4)
         machine.run(5)
         guessed = lift(module, 8, ((8, 4, "B"),), tuple(sorted(opened_of(module, "call") + ((8, 4),))))
