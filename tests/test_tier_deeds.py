@@ -183,6 +183,15 @@ class Deeds(unittest.TestCase):
         machine.run(1)
         self.assertEqual(machine.went_up(), 1)
 
+    def test_an_ask_that_began_nothing_is_not_opened(self):
+        """Of what class its receiver is, is told by new; but it was not asked yet."""
+        module = tree_module("text a ; drop ; new B ; int 1 ; ask A m ; drop ; call 6 ; jump 0")
+        machine = self.machine(module, (7,) + (0,) * 50)
+        machine.run(0)
+        once = lift(module, 0, (), opened_of(module, "call"))
+        self.assertNotEqual(len(once[2]), len(lift(module, 0, (), opened_of(module, "call", "ask"))[2]))
+        self.assertEqual(machine.tiers(), ((0, len(once[2])),))
+
     def test_what_an_entered_ask_began_is_guessed(self):
         """main's strip enters h and, by the fact of new, the ask in it; the slow h of k then is lifted with that guess."""
         h = ("h", (("of", "A"),), None, (), read_code("text a ; drop ; load 0 ; int 1 ; ask A m ; drop ; done"), ())
