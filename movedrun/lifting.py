@@ -65,7 +65,7 @@ class Lifting:
         settled = settled_view(self.known, form)
         if pairs == ():
             return self.row_at(settled, ())
-        # No view is settled and a moves row's at once, where it has these pairs: the key tells both.
+        # No key of another row is like this one: its second part are facts, which name classes, not sources.
         return self.row_of((view, pairs), [view, (), ("moves", pairs), settled])
 
     def kept(self, view, facts):

@@ -124,9 +124,16 @@ class Telling(Machining):
         machine = self.machine(tree_module("new A ; store 0 ; text ab ; show ; nil ; throw", own=(("of", "A"),)))
         self.assertEqual(machine.run(0), ("fault", ("nil", "main"), ("ab",)))
         self.assertEqual((machine.graph(), machine.unreached()), (None, 2))
+        other = machine.copy()
         machine.whole()
         self.assertEqual((machine.unreached(), machine.heap()[3]), (0, ()))
         self.assertEqual(machine.run(10 ** 6), ("fault", ("nil", "main"), ("ab",)))
+        self.assertEqual((other.graph(), other.unreached(), other.run(0)), (None, 2, ("fault", ("nil", "main"), ("ab",))))
+        for deed in (other.minor, other.settle, other.out, other.whole, lambda: other.slice(0), lambda: other.forget(0)):
+            self.assertIsNone(deed())
+        self.assertEqual((other.collected(), other.went_up(), other.went_out()), ((1, 1, 2), 0, 0))
+        strip = lift(tree_module("done"), 0, (), ())
+        self.refused(BadStrip, other.hold, strip)
 
     def test_what_lies_on_the_heap(self):
         text = ("new A ; store 0 ; new B ; store 1 ; load 0 ; int 7 ; put A n ; load 1 ; load 1 ; put A next ; load 1 ; load 1 ; put B b ; "
