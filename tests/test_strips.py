@@ -185,6 +185,15 @@ class Loops(Judging):
         self.assertTrue(self.holds(self.added(strip, (at(4, n(1), n(1), n(3)), (), ("moves", ((0, n(1)),)), 4))))
         self.assertFalse(self.holds(self.added(strip, (at(11, n(2)), (), ("moves", ((0, n(1)),)), 4))))
 
+    def test_an_entry_may_be_a_moves_row(self):
+        """It is at the entry's place, or at one that is passed from there; the registers are those of the entry."""
+        for view, pairs, right in ((at(2, r(0)), (), True), (at(3, r(0), r(0)), ((7, n(1)),), True), (at(4, r(0), r(0), n(3)), (), True),
+                                   (at(2, r(1)), ((0, r(1)),), False), (at(2, r(0)), ((0, n(1)),), False), (at(5, r(0), r(1)), (), False)):
+            strip = self.added(LOOP_STRIP, (view, (), ("moves", pairs), 4))
+            self.assertEqual(self.holds((0, ((0, 0), (2, 10)), strip[2])), right, (view, pairs))
+        strip = self.added(LOOP_STRIP, (at(0, None), (), ("moves", ()), 0))
+        self.assertTrue(self.holds((0, ((0, 10), (2, 4)), strip[2])))
+
     def test_an_entry_with_values_on_the_stack(self):
         self.module = with_code(*read_code("read ; read ; twin ; show ; jump 2"))
         end = ((((0, 3, (), (r(0), r(1), r(1))),), (), ("do", None), 3), (((0, 4, (), (r(0), r(1))),), (), ("beat",), 2))
