@@ -97,3 +97,68 @@ def put_moves_ahead(chance, rows, index, classes):
 
 
 BENDS = (bend_source, bend_place, bend_depth, bend_names, drop_fact, add_fact, bend_written, go_out, bend_next, bend_moves, put_moves_ahead)
+
+
+def renumbered(behind, numbers):
+    if isinstance(behind, tuple):
+        return tuple(numbers[index] for index in behind)
+    return None if behind is None else numbers[behind]
+
+
+def shuffled_strip(chance, strip):
+    """The same rows in another sequence: right, if the strip is."""
+    function, entries, rows = strip
+    sequence = chance.sample(range(len(rows)), len(rows))
+    numbers = {old: new for new, old in enumerate(sequence)}
+    moved = tuple(rows[old][:3] + (renumbered(rows[old][3], numbers),) for old in sequence)
+    return (function, tuple((place, numbers[row]) for place, row in entries), moved)
+
+
+def doubled_strip(chance, strip):
+    """Each row twice, and one or the other of the two is behind: right, if the strip is."""
+    function, entries, rows = strip
+    many = len(rows)
+
+    def either(index):
+        return index + chance.choice((0, many))
+
+    def behind(row):
+        if isinstance(row[3], tuple):
+            return tuple(either(index) for index in row[3])
+        return None if row[3] is None else either(row[3])
+
+    doubled = tuple(row[:3] + (behind(row),) for row in rows + rows)
+    return (function, tuple((place, either(row)) for place, row in entries), doubled)
+
+
+def leaving_strip(chance, strip):
+    """Some rows go out: right, if the strip is."""
+    function, entries, rows = strip
+    left = [row[:2] + (("out",), None) if row[2][0] != "moves" and chance.random() < 0.2 else row for row in rows]
+    return (function, entries, tuple(left))
+
+
+def moved_strip(chance, strip):
+    """Two registers are exchanged ahead of some rows, and back behind them: right, if the strip is."""
+    function, entries, rows = strip
+    rows = list(rows)
+    guarded = {row[3] for row in rows if row[2][0] in ("guard", "moves")}
+    for index in range(len(rows)):
+        view, facts, deed, behind = rows[index]
+        if index in guarded or facts != () or deed[0] not in ("do", "call", "beat", "leave") or chance.random() < 0.5:
+            continue
+        if behind == index or rows[behind][1] != () or rows[behind][2][0] == "moves":
+            continue
+        one, other = chance.sample(range(12), 2)
+        pairs = tuple(sorted(((one, ("r", other)), (other, ("r", one)))))
+        if len(deed) > 1 and deed[1] is not None:
+            deed = (deed[0], {one: other, other: one}.get(deed[1], deed[1]))
+        rows[index] = (view, (), ("moves", pairs), len(rows))
+        rows.append((exchanged(view, one, other), (), deed, len(rows) + 1))
+        rows.append((exchanged(rows[behind][0], one, other), (), ("moves", pairs), behind))
+        # What is behind moves may not become a moves row itself.
+        guarded.add(behind)
+    return (function, entries, tuple(rows))
+
+
+REMAKINGS = (shuffled_strip, doubled_strip, leaving_strip, moved_strip)

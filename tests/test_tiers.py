@@ -10,7 +10,7 @@ from movedrun.machine import Machine, outlived, runs_alike
 from movedrun.meaning import mean
 from movedrun.strips import lift, strip_holds
 from movedrun.verifier import verify
-from tests.bending import bent_strip
+from tests.bending import REMAKINGS, bent_strip
 from tests.generating import made_programs
 from tests.heaprunning import heap_behind
 from tests.spoiling import spoiled
@@ -100,6 +100,21 @@ class Tiers(unittest.TestCase):
                     self.assertEqual((machine.heap(), machine.collected()), (picture, collected))
                 ends += sum(machine.collected())
         self.assertGreater(ends, 500)
+
+    def test_what_is_made_of_right_strips_is_right(self):
+        chance = random.Random(8)
+        made = 0
+        for _, module in self.modules(chance, 15000, 4):
+            for strip in self.strips(chance, module)[:3]:
+                if len(strip[2]) > 300:
+                    continue
+                for remake in REMAKINGS:
+                    strip = remake(chance, strip)
+                    self.assertTrue(strip_holds(module, strip), remake)
+                    made += 1
+                for schedule in ((), (0, 8), (1, 0, 9, 7)):
+                    self.assertIsNone(runs_alike(module, (1, 5, 0), 60, chance.choice(SIZES), schedule, (strip,)))
+        self.assertGreater(made, 50)
 
     def test_bent_strips_that_hold_run_alike(self):
         chance = random.Random(4)
