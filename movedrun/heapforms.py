@@ -64,17 +64,18 @@ def is_size(shapes, kind, slots):
     return 0 <= slots <= MOST_ENTRIES
 
 
-def look_at_roots(roots, is_object):
-    if not are_roots(roots, is_object):
+def look_at_roots(roots, holder):
+    if not are_roots(roots, holder):
         raise BadRoots("this is no tuple of at most 40,000 objects of the heap, or 0")
 
 
-def are_roots(roots, is_object):
+def are_roots(roots, holder):
+    """Whether this is a tuple of roots; the holder tells of an integer whether it is an object's."""
     if not is_tuple_to(roots, MOST_ROOTS):
         return False
     for root in roots:
         # True and False are no integers, though they are equal to 1 and 0.
-        if not is_integer(root) or (root != 0 and not is_object(root)):
+        if not is_integer(root) or (root != 0 and not holder.is_object(root)):
             return False
     return True
 

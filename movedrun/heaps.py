@@ -38,7 +38,7 @@ class Heap:
         return move_young(self.memory, roots, False)
 
     def look_at(self, roots):
-        look_at_roots(roots, self.memory.is_object)
+        look_at_roots(roots, self.memory)
 
     def look_at_address(self, address):
         if not is_integer(address) or not self.memory.is_object(address):

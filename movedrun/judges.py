@@ -140,4 +140,4 @@ class PictureLook:
         return sorted([address for address in self.objects if self.colour(address) == colour])
 
     def are_roots(self, roots):
-        return are_roots(roots, self.is_object)
+        return are_roots(roots, self)

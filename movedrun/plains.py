@@ -19,7 +19,7 @@ class PlainHeap:
         return 1 <= address <= len(self.bodies)
 
     def look_at(self, roots):
-        look_at_roots(roots, self.is_object)
+        look_at_roots(roots, self)
 
     def look_at_address(self, address):
         if not is_integer(address) or not self.is_object(address):
