@@ -1,6 +1,6 @@
 """How a strip is made: views are followed from each entry, and one row is made for each that is come to."""
 
-from movedrun.family import NIL, class_of
+from movedrun.family import NIL
 from movedrun.known import places_behind
 from movedrun.leading import Standing, is_doing, ways
 from movedrun.silent import SilentWalk, settled_view
@@ -130,10 +130,9 @@ class Lifting:
 
     def is_at_of_nil(self, standing):
         """Behind it nothing has kinds, as it always faults."""
-        return standing.op.word == "at" and self.kind_of_receiver(standing) == NIL
-
-    def kind_of_receiver(self, standing):
-        return self.known.kinds[standing.function][standing.place][-standing.op.takes]
+        if standing.op.word != "at":
+            return False
+        return self.known.kinds[standing.function][standing.place][-standing.op.takes] == NIL
 
     def call_deed(self, standing):
         place = (standing.function, standing.place)
@@ -145,12 +144,10 @@ class Lifting:
         return ("call", self.free_number(standing))
 
     def is_guessing(self, standing):
-        """An ask that is guessed, of a register that may hold an object and has no fact."""
+        """An ask that is guessed, of a register without a fact, whatever its kind is there."""
         if standing.op.word != "ask" or (standing.function, standing.place) not in self.guesses:
             return False
-        if standing.receiver()[0] != "r" or standing.fact(standing.receiver()) is not None:
-            return False
-        return class_of(self.kind_of_receiver(standing)) is not None
+        return standing.receiver()[0] == "r" and standing.fact(standing.receiver()) is None
 
     def free_number(self, standing):
         """The least register that stands nowhere in the view, None if nothing comes."""

@@ -1,9 +1,9 @@
 """The roots of a machine: what its frames hold that may be things (point 42)."""
 
+from movedrun.family import is_reference
 from movedrun.graphs import place_of_kinds
 from movedrun.known import slot_kinds
 from movedrun.striprows import StripFrame
-from movedrun.viewforms import leads
 
 
 class Roots:
@@ -39,8 +39,8 @@ class Roots:
             own = slot_kinds(self.run.known.functions[function])
             kinds = self.run.known.kinds[function][place]
             self.slots[function, place] = (
-                [slot for slot in self.run.known.sets[function][place] if leads(own[slot])],
-                [at for at, kind in enumerate(kinds) if leads(kind)]
+                [slot for slot in self.run.known.sets[function][place] if is_reference(own[slot])],
+                [at for at, kind in enumerate(kinds) if is_reference(kind)]
             )
         return self.slots[function, place]
 

@@ -1,7 +1,8 @@
 """Strips as runs need them, and the frames that are in one."""
 
+from movedrun.family import is_reference
 from movedrun.runs import CodeFrame
-from movedrun.viewforms import fact_registers, leads, sources_of
+from movedrun.viewforms import fact_registers, sources_of
 
 
 class Strip:
@@ -65,7 +66,7 @@ def waiting_registers(known, view, handed):
     found = {}
     # What was handed in lies on the last frame's stack, which is told last.
     for source, kind in sources[:len(sources) - handed]:
-        if source[0] == "r" and leads(kind):
+        if source[0] == "r" and is_reference(kind):
             found[source[1]] = True
     return sorted(list(found))
 

@@ -118,16 +118,11 @@ def sources_of(known, view):
     return found
 
 
-def leads(kind):
-    """Whether a value of the kind may be a thing: not where it can be nil alone."""
-    return is_reference(kind) and kind != "nil"
-
-
 def fact_registers(known, view):
-    """The registers that stand in a view at a reference kind, ascending."""
+    """The registers that stand in a view at a reference kind (nil's own too), ascending."""
     found = {}
     for source, kind in sources_of(known, view):
-        if source[0] == "r" and leads(kind):
+        if source[0] == "r" and is_reference(kind):
             found[source[1]] = True
     return sorted(list(found))
 

@@ -45,6 +45,19 @@ def names_bound(tree):
             yield node.name
 
 
+def methods_of(tree):
+    """The names of the methods of each class of a file."""
+    return {each: {part.name for part in each.body if isinstance(part, ast.FunctionDef)}
+            for each in ast.walk(tree) if isinstance(each, ast.ClassDef)}
+
+
+def handed_on(tree):
+    """What is read of objects and not called there."""
+    called = {id(node.func) for node in ast.walk(tree) if isinstance(node, ast.Call)}
+    return [node for node in ast.walk(tree)
+            if isinstance(node, ast.Attribute) and isinstance(node.ctx, ast.Load) and id(node) not in called]
+
+
 class Language(unittest.TestCase):
     def each(self):
         return [(path, path.read_text(encoding="utf-8")) for path in FILES]
@@ -121,6 +134,20 @@ class Language(unittest.TestCase):
                         self.assertNotIn(chr(37), node.value)
                 if isinstance(node, ast.Compare) and isinstance(node.ops[0], (ast.Is, ast.IsNot)):
                     self.assertIsInstance(node.comparators[0], ast.Constant)
+
+    def test_methods_are_called_where_they_stand(self):
+        trees = {path: ast.parse(text) for path, text in self.each()}
+        methods = {name for tree in trees.values() for names in methods_of(tree).values() for name in names}
+        stored = {node.attr for tree in trees.values() for node in ast.walk(tree)
+                  if isinstance(node, ast.Attribute) and isinstance(node.ctx, ast.Store)}
+        for path, tree in trees.items():
+            for node in handed_on(tree):
+                self.assertFalse(node.attr in methods - stored, (path.name, node.lineno, node.attr))
+            # What is an attribute elsewhere may be a method of the class itself.
+            for each, names in methods_of(tree).items():
+                for node in handed_on(each):
+                    own = isinstance(node.value, ast.Name) and node.value.id == "self" and node.attr in names
+                    self.assertFalse(own, (path.name, node.lineno, node.attr))
 
     def test_no_file_imports_from_one_that_imports_it(self):
         needs = {}

@@ -162,6 +162,115 @@ class Promises(Lifting):
         return made
 
 
+# What is nil all the time is in a register behind the loop's head.
+NIL_LOOP = "nil ; read ; int 0 ; less ; if 1 ; "
+
+
+class NilsOwnKind(Lifting):
+    """An ask is guarded whatever kind its receiver has at the place (point 40)."""
+
+    def words(self, strip):
+        return [row[2][0] for row in strip[2]]
+
+    def runs(self, module, strip):
+        for schedule in ((), (8,), (0, 9, 6), (1, 8, 4)):
+            for given in ((), (1,), (-1, -2, 3, 4), (-1, 0, 0, -1, 0)):
+                self.assertIsNone(runs_alike(module, given, 20, (16, 8, 8, 2), schedule, (strip,)))
+
+    def test_the_guard_and_what_is_behind_it(self):
+        module = module_of(function_of(name="main", code=read_code(NIL_LOOP + "ask A m ; done")),
+                           function_of(name="A.m", params=(("of", "A"),)), classes=(("A", None, (), (("m", 1),)),))
+        view, fact = ((0, 5, (), (("r", 0),)),), ((0, "A"),)
+        end = (((0, 6, (), ()),), (), ("done",), None)
+        opened = ((0, 6, (), ()), (1, 0, (("r", 0),), ()))
+        for places, behind in (((), [(view, fact, ("call", None), end)]), (((0, 5),), [(view, fact, ("enter",), (opened, (), ("leave",), end))])):
+            strip = self.lifts(module, 0, ((0, 5, "A"),), places)
+            self.runs(module, strip)
+            rows = strip[2]
+            found = [rows[row[3]] for row in rows if row[0] == view and row[1] == ()]
+            self.assertEqual([row[2] for row in rows if row[0] == view and row[1] == ()], [("guard", "A")])
+            self.assertEqual([row[:3] for row in found], [row[:3] for row in behind])
+        self.assertEqual([row[2] for row in self.lifts(module)[2] if row[0] == view], [("call", None)])
+
+    def test_methods_with_params(self):
+        for code, place, names in (("int 7 ; ask A m ; show ; done", 6, "ABCE"), ("read ; ask A m ; show ; done", 6, "ABCE"), ("nil ; ask A k ; done", 6, "ABCE"),
+                                   ("new B ; ask A k ; done", 6, "ABCE"), ("read ; ask B m ; show ; done", 6, "BE"), ("ask D m ; drop ; done", 5, "D")):
+            module = tree_module(NIL_LOOP + code)
+            for name in names:
+                for opened, word in (((), "call"), (((0, place),), "enter")):
+                    strip = self.lifts(module, 0, ((0, place, name),), opened)
+                    # From the entry 0 the receiver is nil itself: it is called.
+                    self.assertEqual([self.words(strip).count(each) for each in ("guard", "enter", "call")], [1, word == "enter", 1 + (word == "call")])
+                    self.runs(module, strip)
+
+    def test_one_guard_for_each_register(self):
+        module = tree_module(NIL_LOOP + "twin ; int 1 ; ask A m ; drop ; twin ; nil ; ask A k ; int 2 ; ask B m ; show ; done")
+        guesses = tuple(place + ("B",) for place in places_of(module, "ask"))
+        self.assertEqual(len(guesses), 3)
+        for many in range(4):
+            for opened in ((), tuple(place[:2] for place in guesses)):
+                strip = self.lifts(module, 0, guesses[many:], opened)
+                self.assertEqual(self.words(strip).count("guard"), many < 3)
+                self.runs(module, strip)
+
+    def test_a_fact_of_a_class_that_the_ask_is_not_of(self):
+        """Of nil's own kind all may be asked; behind a guard of D the object is no A, and is not guarded again."""
+        module = tree_module(NIL_LOOP + "twin ; ask D m ; drop ; twin ; int 1 ; ask A m ; drop ; ask D m ; drop ; done")
+        first, second, third = places_of(module, "ask")
+        for opened in ((), (second,), (first, second, third)):
+            strip = self.lifts(module, 0, (first + ("D",), second + ("B",), third + ("D",)), opened)
+            self.assertEqual(self.words(strip).count("guard"), 1)
+            known = [row[2][0] for row in strip[2] if row[1] != () and row[0][-1][:2] in (second, third)]
+            self.assertEqual(known, ["call", "enter" if third in opened else "call"])
+            self.runs(module, strip)
+
+    def test_in_frames_that_are_opened(self):
+        """The loop stands in the innermost frame; what waits has nil on its stacks, too."""
+        for depth in range(1, 6):
+            functions = [function_of(name=f"f{index}", code=read_code(f"nil ; call {index + 1} ; drop ; done")) for index in range(depth - 1)]
+            functions.append(function_of(name="loop", code=read_code(NIL_LOOP + "twin ; int 4 ; ask A m ; show ; ask A k ; done")))
+            functions.append(function_of(name="A.m", params=(("of", "A"), "int"), result="int", code=read_code("load 1 ; done")))
+            functions.append(function_of(name="A.k", params=(("of", "A"),)))
+            module = module_of(*functions, classes=(("A", None, (), (("m", depth), ("k", depth + 1))),))
+            self.assertEqual(verify(module), None)
+            calls, asks = places_of(module, "call"), places_of(module, "ask")
+            guesses = tuple(place + ("A",) for place in asks)
+            for opened in (tuple(calls), tuple(sorted(calls + asks))):
+                strip = self.lifts(module, 0, guesses, opened)
+                words = self.words(strip)
+                # From the entry 0 nil itself is asked; five frames let no further one be opened.
+                self.assertEqual((words.count("guard"), words.count("leave") > 0), (1, depth > 1 or opened != tuple(calls)))
+                self.assertEqual(words.count("enter") - len(calls), 2 if opened != tuple(calls) and depth < 5 else 0)
+                self.runs(module, strip)
+
+    def made_code(self, chance):
+        """A loop over two nils, which are then asked at random; ways part and meet between."""
+        code = ["nil", "nil", "read", "int 0", "less", "if 2"]
+        for _ in range(chance.randrange(1, 7)):
+            word = chance.choice(("ask A m", "ask B m", "ask D m", "ask A k", "text", "part"))
+            if word == "text":
+                code += ["text a", "drop"]
+            elif word == "part":
+                code += ["read", "int 0", "less", f"if {len(code) + 6}", "read", "drop"]
+            else:
+                code += ["twin"] + {"k": ["twin"], "m": ["read"]}[word[-1]][:word != "ask D m"] + [word] + ["drop"] * (word[-1] == "m")
+        return " ; ".join(code + ["drop", chance.choice(("read ; ask A m", "ask D m")), "drop", "done"])
+
+    def test_made_ones(self):
+        chance = random.Random(40)
+        guards = 0
+        for _ in range(150):
+            module = tree_module(self.made_code(chance))
+            self.assertEqual(verify(module), None)
+            asks = places_of(module, "ask")
+            guesses = tuple(place + (chance.choice(below(module, module[1][0][4][place[1]][1])),) for place in asks if chance.random() < 0.8)
+            for opened in ((), tuple(place for place in asks if chance.random() < 0.6)):
+                strip = self.lifts(module, 0, guesses, opened)
+                guards += self.words(strip).count("guard")
+                self.assertIsNone(runs_alike(module, (-1, 0, 1, -1, -1, 0), 12, (16, 8, 8, 2), (8, 0, 1), (strip,)))
+        self.assertGreater(guards, 150)
+
+
 class Sizes(Lifting):
     def random_function(self, chance, many, name, callees):
         """Code of ifs and jumps wherever they lead, with as little between as may be."""

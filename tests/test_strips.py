@@ -5,7 +5,7 @@ import unittest
 from movedrun.errors import BadModule, NotVerified
 from movedrun.machine import runs_alike
 from movedrun.strips import strip_holds
-from movedrun.verifier import verify
+from movedrun.verifier import stack_kinds, verify
 from tests.modulebuilding import TREE, function_of, module_of, read_code, tree_module, with_code
 
 
@@ -468,6 +468,82 @@ class Asks(Judging):
         for number, right in ((0, True), (1, True)):
             extra = (((0, 6, (), (r(0), r(number))),), (), OUT, None)
             self.assertEqual(self.holds((0, ((0, 0),), start + (extra,))), right)
+
+
+# The loop leaves nil on the stack, which is in a register behind the entry 1; what is done with it follows the if.
+NIL_LOOP = "nil ; read ; int 0 ; less ; if 1 ; "
+NIL_ENTRIES = ((0, 0), (1, 4))
+
+
+def nil_loop_rows(place, *frame):
+    """The rows 0 to 6 of it; behind the if comes the row 7 at this place, with r(0) and the frame on the stack."""
+    return (
+        (((0, 1, (), (NIL,)),), (), ("do", 0), 1), (((0, 3, (), (NIL, r(0), n(0))),), (), ("do", 1), 2),
+        (((0, 4, (), (NIL, r(1))),), (), ("if",), (3, 0)), (((0, place, (), (NIL, *[NIL if each == r(0) else each for each in frame])),), (), OUT, None),
+        (((0, 1, (), (r(0),)),), (), ("do", 1), 5), (((0, 3, (), (r(0), r(1), n(0))),), (), ("do", 2), 6),
+        (((0, 4, (), (r(0), r(2))),), (), ("if",), (7, 4)),
+    )
+
+
+class NilsOwnKind(Judging):
+    """It is a reference kind, too (point 39): there are facts and guards of registers that stand at it."""
+
+    def loop(self, code, rows, place, *frame):
+        self.module = tree_module(NIL_LOOP + code)
+        self.setUp()
+        many = len(self.module[1][0][4])
+        end = (((0, many - 1, (), ()),), (), ("done",), None)
+        return (0, NIL_ENTRIES, nil_loop_rows(place, *frame) + tuple(rows) + (end,))
+
+    def test_facts_of_rows_to_which_none_leads(self):
+        self.module = tree_module("nil ; read ; truth true ; read ; drop ; drop ; drop ; drop ; done")
+        rows = ((((0, 1, (), (NIL,)),), (), ("do", 0), 1), (((0, 3, (), (NIL, r(0), ("truth", True))),), (), ("do", 1), 2),
+                (((0, 8, (), ()),), (), ("done",), None))
+        view = ((0, 3, (), (r(0), r(1), r(2))),)
+        for facts, right in (((), True), (((0, "A"),), True), (((0, "Gone"),), True), (((0, "class"),), False), (((1, "A"),), False),
+                             (((2, "A"),), False), (((3, "A"),), False), (((0, "A"), (1, "A")), False), (((0, "A"), (0, "B")), False)):
+            self.assertEqual(self.holds((0, ((0, 0),), rows + ((view, facts, OUT, None),))), right, facts)
+
+    def test_there_is_no_fact_of_what_is_mixed(self):
+        self.module = tree_module("truth true ; if 4 ; nil ; jump 5 ; int 1 ; read ; drop ; drop ; done")
+        self.assertEqual(stack_kinds(self.module, 0)[5], ("mixed",))
+        rows = ((((0, 5, (), (n(1),)),), (), ("do", 1), 1), (((0, 8, (), ()),), (), ("done",), None))
+        for facts, right in (((), True), (((0, "A"),), False)):
+            self.assertEqual(self.holds((0, ((0, 0),), rows + ((((0, 5, (), (r(0),)),), facts, OUT, None),))), right, facts)
+
+    def test_a_fact_stays(self):
+        fact = ((0, "B"),)
+        asked = ((0, 7, (), (r(0), r(0), n(7))),)
+        guard = (asked, (), ("guard", "B"), 8)
+
+        def strip(*rows):
+            return self.loop("twin ; int 7 ; ask A m ; read ; drop ; drop ; drop ; done", (guard,) + rows, 7, r(0), n(7))
+
+        for number, kept, right in ((1, fact, True), (1, (), True), (1, ((0, "A"),), False), (1, ((0, "B"), (1, "B")), False), (0, fact, False), (0, (), False)):
+            view = ((0, 8, (), (r(0), r(number))),)
+            self.assertEqual(self.holds(strip((asked, fact, ("call", number), 9), (view, kept, ("do", 2), 10))), right, (number, kept))
+        # By the fact B.m is meant.
+        for function, right in ((2, True), (1, False)):
+            opened = ((0, 8, (), (r(0),)), (function, 1, (r(0), n(7)), (n(7),)))
+            rows = ((asked, fact, ("enter",), 9), (opened, fact, ("leave",), 10), (((0, 8, (), (r(0), n(7))),), fact, ("do", 2), 11))
+            self.assertEqual(self.holds(strip(*rows)), right, function)
+
+    def test_guards(self):
+        for text, deed, frame in (("ask D m ; drop ; done", ("call", 1), ()), ("get A n ; drop ; done", ("do", 1), ()),
+                                  ("int 3 ; put A n ; done", ("do", None), (n(3),)), ("int 3 ; ask A m ; drop ; done", ("call", 1), (n(3),))):
+            place = 5 + len(frame)
+            view = ((0, place, (), (r(0),) + frame),)
+            for name in ("A", "B", "C", "D", "E", "Gone"):
+                fits = name == "D" if "D" in text else name in ("A", "B", "C", "E")
+                for told in ((0, name), (0, "Other"), (1, name)):
+                    strip = self.loop(text, ((view, (), ("guard", name), 8), (view, (told,), deed, 9)), place, *frame)
+                    self.assertEqual(self.holds(strip), fits and told == (0, name), (text, name, told))
+
+    def test_nil_itself_is_not_guarded(self):
+        asked, known = ((0, 5, (), (r(0),)),), ((0, 5, (), (NIL,)),)
+        for deed, right in ((("call", 1), True), (("guard", "D"), False), (("enter",), False)):
+            rows = ((asked, (), OUT, None), (known, (), deed, 9))
+            self.assertEqual(self.holds(self.loop("ask D m ; drop ; done", rows, 5)), right, deed)
 
 
 class Depths(Judging):
